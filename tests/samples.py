@@ -1,0 +1,95 @@
+"""Histories that the tests share, and objects that are no hands, marks or views."""
+
+import random
+
+from slow import told_order
+from unmixed.errors import RowError
+from unmixed.histories import History
+
+HANDS = ["ann", "bob", "cy", "dan", "eve"]
+
+
+def both_deeds():
+    return {
+        "ann": [("put", "x", None, None, {}), ("put", "y", ("ann", 0), None, {"ann": 1})],
+        "bob": [("put", "p", None, None, {}), ("put", "q", ("bob", 0), None, {"bob": 1})],
+    }
+
+
+def talk_deeds():
+    return {
+        "ann": [
+            ("put", "we", None, None, {}),
+            ("put", "go", ("ann", 0), None, {"ann": 1}),
+            ("put", "up", ("ann", 1), None, {"ann": 2}),
+        ],
+        "bob": [
+            ("put", "not", ("ann", 0), ("ann", 1), {"ann": 2}),
+            ("strike", ("ann", 1), {"ann": 2, "bob": 1}),
+        ],
+        "cy": [("put", "may", ("ann", 0), ("ann", 1), {"ann": 2})],
+    }
+
+
+def four_deeds():
+    return {
+        "ann": [("put", "a", None, None, {})],
+        "bob": [("put", "b", None, None, {})],
+        "cy": [("put", "r", None, None, {}), ("put", "x", ("ann", 0), ("cy", 0), {"ann": 1, "cy": 1})],
+    }
+
+
+def largest_deeds():
+    """Five hands, 24 things and 30 deeds, nearly all of them with all others' earlier deeds in their pasts."""
+    return random_deeds(random.Random(5), HANDS, 30, things=24, heard=0.9, strikes=0)
+
+
+# Neither marks nor hands: wrong in every place where a mark or a hand is asked for.
+NO_WORDS = [
+    None, True, False, 0, 1, -1, "", "Ann", "a b", "ann1", "abcdefghi", "a\n", "\t", [], ["ann"], (), ("ann",), {},
+    {"ann": 1}, ("ann", 0), RowError("ann"), History({}), History(both_deeds()), [[[[]]]], [("ann", 0)],
+]
+NO_MARKS = [
+    None, True, False, 0, 1, -1, "", "ann", [], ["ann", 0], (), ("ann",), ("ann", 0, 0), ("ann", -1), ("ann", True),
+    ("ann", False), ("ann", "0"), ("ann", None), ("ann", [0]), ("Ann", 0), ("", 0), ("abcdefghi", 0), (0, "ann"),
+    (None, 0), (["ann"], 0), {}, {"ann": 0}, ("ann", {}), RowError(("ann", 0)), History({}), (("ann", 0),),
+]
+NO_VIEWS = [
+    None, True, 0, 1, "", "ann", [], ["ann"], (), ("ann", 1), [("ann", 1)], {"ann": 0}, {"ann": -1}, {"ann": True},
+    {"ann": None}, {"ann": "1"}, {"ann": [1]}, {"Ann": 1}, {"": 1}, {"abcdefghi": 1}, {None: 1}, {True: 1}, {1: 1},
+    {("ann", 1): 1}, {"ann": 1, "bob": 0}, RowError({}), History({}), {RowError(): 1},
+]
+
+
+def nested(depth):
+    """A list within a list, and on."""
+    value = []
+    for _ in range(depth):
+        value = [value]
+    return value
+
+
+def random_deeds(chance, hands, many, things=30, heard=0.5, strikes=0.2):
+    """What hands do that put and strike at will and hear of one another now and then, told by the slow words below."""
+    deeds, views, order, neighbours = {}, {hand: {} for hand in hands}, [], {}
+    for _ in range(many):
+        hand = chance.choice(hands)
+        for other in hands:
+            if chance.random() < heard:
+                for owner, count in views[other].items():
+                    views[hand][owner] = max(views[hand].get(owner, 0), count)
+        past = dict(views[hand])
+        seen = [thing for thing in order if thing[1] < past.get(thing[0], 0)]
+        mark = (hand, len(deeds.get(hand, [])))
+        if seen and (len(order) >= things or chance.random() < strikes):
+            deed = ("strike", chance.choice(seen), past)
+        elif len(order) >= things:
+            continue
+        else:
+            at = chance.randrange(len(seen) + 1)
+            deed = ("put", chance.choice(["x", "y", "word"]), *([None, *seen, None][at:at + 2]), past)
+            neighbours[mark] = deed[2:4]
+            order = told_order(neighbours)
+        deeds.setdefault(hand, []).append(deed)
+        views[hand][hand] = mark[1] + 1
+    return deeds

@@ -1,0 +1,191 @@
+import importlib
+import inspect
+import time
+import unittest
+
+from samples import both_deeds, four_deeds, largest_deeds, nested, talk_deeds
+from unmixed.errors import InvalidMark
+from unmixed.histories import History, first_wrong, grown, has_heard, is_mark, past_of
+from unmixed.views import (
+    has_view, heads, is_sequence, is_view, joined, least_view, part, sequence, shared, whole,
+)
+
+INTERFACE = {
+    "unmixed.histories": {
+        "is_mark": "(value)", "first_wrong": "(deeds)", "past_of": "(history, mark)",
+        "has_heard": "(history, one, other)", "grown": "(history, hand, deed)", "History": "(deeds)",
+    },
+    "unmixed.views": {
+        "is_view": "(history, value)", "whole": "(history)", "joined": "(history, one, other)",
+        "shared": "(history, one, other)", "has_view": "(history, one, other)", "heads": "(history, view)",
+        "least_view": "(history, marks)", "part": "(history, view)", "sequence": "(history)",
+        "is_sequence": "(history, value)",
+    },
+}
+METHODS = {"hands": "(self)", "deeds": "(self, hand)", "things": "(self)", "size": "(self)"}
+
+
+class Interface(unittest.TestCase):
+    """[1]"""
+
+    def test_names_arguments_and_files(self):
+        for module, names in INTERFACE.items():
+            for name, arguments in names.items():
+                found = getattr(importlib.import_module(module), name)
+                self.assertEqual(str(inspect.signature(found)), arguments, name)
+                self.assertEqual(found.__module__, module, name)
+
+    def test_methods_stand_in_the_class_itself(self):
+        for name, arguments in METHODS.items():
+            self.assertEqual(str(inspect.signature(vars(History)[name])), arguments, name)
+        self.assertIn("__eq__", vars(History))
+
+
+class TrueIsNotOne(unittest.TestCase):
+    """[2]"""
+
+    def test_marks_views_and_deeds(self):
+        both = History(both_deeds())
+        self.assertIs(is_mark(("ann", True)), False)
+        self.assertIs(is_view(both, {"ann": True}), False)
+        self.assertIs(is_sequence(both, [("ann", 0), ("ann", True), ("bob", 0), ("bob", True)]), False)
+        for mark in [("ann", True), ("ann", False)]:
+            for call in [lambda: past_of(both, mark), lambda: least_view(both, [mark])]:
+                with self.assertRaises(InvalidMark) as held:
+                    call()
+                self.assertIs(held.exception.value, mark)
+        deeds = both_deeds()
+        deeds["ann"][1] = ("put", "y", ("ann", False), None, {"ann": 1})
+        self.assertEqual(first_wrong(deeds), ("form", None))
+        deeds["ann"][1] = ("put", "y", ("ann", 0), None, {"ann": True})
+        self.assertEqual(first_wrong(deeds), ("form", None))
+
+
+class NothingChanges(unittest.TestCase):
+    """[2]"""
+
+    def test_arguments_are_left_as_they_are(self):
+        deeds = talk_deeds()
+        deeds["bob"][1] = ("strike", ("ann", 1), {"bob": 1, "ann": 2})
+        talk = History(deeds)
+        first_wrong(deeds)
+        one, other, marks = {"cy": 1, "ann": 2}, {"bob": 1, "ann": 3}, [("cy", 0), ("ann", 2)]
+        deed = ("put", "z", ("cy", 0), ("ann", 1), {"cy": 1, "ann": 2})
+        listed = sequence(talk)
+        for call in [joined, shared, has_view]:
+            call(talk, one, other)
+        for call in [heads, part, is_view]:
+            call(talk, one)
+        least_view(talk, marks)
+        grown(talk, "dan", deed)
+        is_sequence(talk, listed)
+        self.assertEqual(deeds, talk_deeds())
+        self.assertEqual(list(deeds["bob"][1][2]), ["bob", "ann"])
+        self.assertEqual([list(one.items()), list(other.items())], [[("cy", 1), ("ann", 2)], [("bob", 1), ("ann", 3)]])
+        self.assertEqual([marks, listed], [[("cy", 0), ("ann", 2)], sequence(talk)])
+        self.assertEqual(list(deed[4]), ["cy", "ann"])
+        self.assertEqual(talk, History(talk_deeds()))
+
+    def test_what_was_passed_may_be_changed(self):
+        deeds = talk_deeds()
+        talk = History(deeds)
+        deeds["ann"][2][4]["ann"] = 9
+        deeds["bob"].pop()
+        del deeds["cy"]
+        self.assertEqual(talk, History(talk_deeds()))
+        deed = ("put", "z", ("cy", 0), ("ann", 1), {"ann": 2, "cy": 1})
+        more = grown(talk, "dan", deed)
+        deed[4].clear()
+        self.assertEqual(past_of(more, ("dan", 0)), {"ann": 2, "cy": 1})
+
+    def test_what_was_returned_may_be_changed(self):
+        talk = History(talk_deeds())
+        view = {"ann": 3}
+        calls = [
+            talk.hands, talk.things, lambda: talk.deeds("ann"), lambda: past_of(talk, ("bob", 1)), lambda: whole(talk),
+            lambda: joined(talk, view, view), lambda: shared(talk, view, view), lambda: heads(talk, view),
+            lambda: least_view(talk, [("cy", 0)]), lambda: sequence(talk), lambda: part(talk, view).deeds("ann"),
+        ]
+        for call in calls:
+            told = repr(call())
+            found = call()
+            self.assertIsNot(found, call())
+            if isinstance(found, list) and isinstance(found[0], tuple) and isinstance(found[0][-1], dict):
+                for deed in found:
+                    deed[-1]["zoe"] = 5
+            found.clear()
+            self.assertEqual(repr(call()), told)
+            self.assertEqual(view, {"ann": 3})
+        self.assertEqual(talk, History(talk_deeds()))
+
+    def test_views_that_are_returned_are_new_ones(self):
+        talk = History(talk_deeds())
+        view = {"ann": 2}
+        for call in [joined, shared]:
+            found = call(talk, view, view)
+            found["ann"] = 1
+            self.assertEqual(view, {"ann": 2})
+
+    def test_histories_share_nothing(self):
+        talk = History(talk_deeds())
+        again = part(talk, whole(talk))
+        more = grown(talk, "dan", ("put", "z", None, ("ann", 0), {"ann": 1}))
+        for history in [again, more]:
+            history.deeds("bob")[1][2].clear()
+            history.deeds("bob").clear()
+        self.assertEqual(talk, again)
+        self.assertEqual(part(more, whole(talk)), talk)
+
+    def test_equal_calls_return_equal_results(self):
+        deeds = four_deeds()
+        one, other = History(deeds), History({hand: deeds[hand] for hand in reversed(list(deeds))})
+        for call in [History.hands, History.things, History.size, whole, sequence]:
+            self.assertEqual(repr(call(one)), repr(call(other)))
+        for mark in sequence(one):
+            self.assertEqual(repr(least_view(one, [mark])), repr(least_view(other, [mark])))
+            self.assertEqual(repr(past_of(one, mark)), repr(past_of(other, mark)))
+
+
+class Limits(unittest.TestCase):
+    """[3]"""
+
+    def test_the_largest_history_is_made_and_asked_at_once(self):
+        deeds = largest_deeds()
+        begun = time.perf_counter()
+        history = History(deeds)
+        self.assertEqual([history.size(), len(history.things()), len(history.hands())], [30, 24, 5])
+        marks = sequence(history)
+        views = [least_view(history, [mark]) for mark in marks]
+        for mark, view in zip(marks, views):
+            self.assertEqual(heads(history, view), [mark])
+            self.assertTrue(has_heard(history, mark, marks[0]) or mark == marks[0] or past_of(history, mark) == {})
+            self.assertEqual(joined(history, view, whole(history)), whole(history))
+            self.assertEqual(part(history, view).size(), sum(view.values()))
+        self.assertIs(is_sequence(history, marks), True)
+        self.assertLess(time.perf_counter() - begun, 5)
+
+    def test_somewhat_larger_ones_raise_no_error(self):
+        forward = [("put", "x", ("ann", at - 1) if at else None, None, {"ann": at} if at else {}) for at in range(60)]
+        backward = [("put", "x", None, ("ann", at - 1) if at else None, {"ann": at} if at else {}) for at in range(60)]
+        for deeds in [forward, backward]:
+            self.assertEqual(History({"ann": deeds}).size(), 60)
+        hands = ["ann", "bob", "cy", "dan", "eve", "fay", "gus"]
+        self.assertEqual(History({hand: [("put", "x", None, None, {})] for hand in hands}).hands(), hands)
+
+    def test_counts_of_thirty_digits(self):
+        huge = 10 ** 30 - 1
+        both = History(both_deeds())
+        self.assertIs(is_mark(("ann", huge)), True)
+        self.assertIs(is_view(both, {"ann": huge, "bob": huge}), False)
+        self.assertEqual(first_wrong({"ann": [("put", "x", None, None, {"bob": huge})]}), ("there", ("ann", 0)))
+        self.assertEqual(first_wrong({"ann": [("strike", ("ann", huge), {})]}), ("struck", ("ann", 0)))
+
+    def test_arguments_nested_forty_deep(self):
+        deep = nested(39)
+        self.assertIs(is_mark([deep]), False)
+        self.assertIs(is_view(History({}), {"ann": deep}), False)
+        self.assertEqual(first_wrong({"ann": deep}), ("form", None))
+
+
+if __name__ == "__main__":
+    unittest.main()
