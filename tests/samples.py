@@ -39,6 +39,41 @@ def four_deeds():
     }
 
 
+def five_deeds():
+    return {
+        "ann": [("put", "a", None, None, {})],
+        "bob": [("put", "b", None, None, {})],
+        "cy": [("put", "r", None, None, {})],
+        "dan": [("put", "x", ("ann", 0), ("cy", 0), {"ann": 1, "cy": 1})],
+        "eve": [("put", "y", ("bob", 0), ("cy", 0), {"bob": 1, "cy": 1})],
+    }
+
+
+def lead_deeds():
+    """Two things put ahead of a third one."""
+    return {
+        "ann": [("put", "r", None, None, {}), ("put", "q", None, ("ann", 0), {"ann": 1})],
+        "bob": [("put", "s", None, ("ann", 0), {"ann": 1})],
+    }
+
+
+def chain_deeds():
+    """Things led over one another, with strikes: u, t, w, q, s, r, as they stand."""
+    return {
+        "ann": [
+            ("put", "r", None, None, {}),
+            ("put", "q", None, ("ann", 0), {"ann": 1}),
+            ("strike", ("ann", 0), {"ann": 2}),
+            ("put", "u", None, ("ann", 1), {"ann": 3}),
+        ],
+        "bob": [
+            ("put", "s", None, ("ann", 0), {"ann": 1}),
+            ("strike", ("bob", 0), {"ann": 1, "bob": 1}),
+        ],
+        "cy": [("put", "t", None, ("ann", 1), {"ann": 2}), ("put", "w", ("cy", 0), ("ann", 1), {"ann": 2, "cy": 1})],
+    }
+
+
 def largest_deeds():
     """Five hands, 24 things and 30 deeds, nearly all of them with all others' earlier deeds in their pasts."""
     return random_deeds(random.Random(5), HANDS, 30, things=24, heard=0.9, strikes=0)
@@ -93,3 +128,45 @@ def random_deeds(chance, hands, many, things=30, heard=0.5, strikes=0.2):
         deeds.setdefault(hand, []).append(deed)
         views[hand][hand] = mark[1] + 1
     return deeds
+
+
+def wide_deeds(chance, hands, many, strikes=0.1):
+    """What hands do each of which hears of few deeds: some put apart first, then they put between two that they saw."""
+    deeds, order, neighbours = {}, [], {}
+    for at in range(many):
+        hand = min(hands, key=lambda other: len(deeds.get(other, [])) + chance.random() * 1.5)
+        number = len(deeds.get(hand, []))
+        heard = [(hand, number - 1)] if number else []
+        if at > len(hands) // 2:
+            heard += chance.sample(sorted(neighbours), min(len(neighbours), chance.choice([1, 1, 2])))
+        past = {}
+        for owner, last in heard:
+            for other, count in [(owner, last + 1), *deeds[owner][last][-1].items()]:
+                past[other] = max(past.get(other, 0), count)
+        seen = [thing for thing in order if thing[1] < past.get(thing[0], 0)]
+        if seen and chance.random() < strikes:
+            deed = ("strike", chance.choice(seen), past)
+        else:
+            fenced = [None, *seen, None]
+            places = list(zip(fenced, fenced[1:]))
+            # Most often where the right neighbour is no brother, so that its place decides.
+            far = [place for place in places if place[0] and (not place[1] or neighbours[place[1]][0] != place[0])]
+            deed = ("put", chance.choice(["x", "y", "word"]), *chance.choice(places + 3 * far), past)
+            neighbours[(hand, number)] = deed[2:4]
+            order = told_order(neighbours)
+        deeds.setdefault(hand, []).append(deed)
+    return deeds
+
+
+def small_deeds(seed, many, size, hands=5):
+    """The deeds of small histories of some hands that saw little or much, strikes among them."""
+    chance = random.Random(seed)
+    found = [{}]
+    while len(found) < many:
+        named = HANDS[:chance.randint(min(2, hands), hands)]
+        if chance.random() < 0.5:
+            found.append(wide_deeds(chance, named, chance.randint(1, size)))
+        else:
+            heard = chance.choice([0.05, 0.3, 0.5, 0.9])
+            found.append(random_deeds(chance, named, chance.randint(1, size + 2), things=size, heard=heard))
+    return found

@@ -4,8 +4,11 @@ import time
 import unittest
 
 from samples import both_deeds, four_deeds, largest_deeds, nested, talk_deeds
+from unmixed.brothers import brothers_behind, led_by, roots, stretch, told_ahead
 from unmixed.errors import InvalidMark
+from unmixed.firsts import all_first, brother_orders, choice_of, first_by, is_first
 from unmixed.histories import History, first_wrong, grown, has_heard, is_mark, past_of
+from unmixed.orders import decided, is_order, order, order_in, reasons
 from unmixed.views import (
     has_view, heads, is_sequence, is_view, joined, least_view, part, sequence, shared, whole,
 )
@@ -20,6 +23,19 @@ INTERFACE = {
         "shared": "(history, one, other)", "has_view": "(history, one, other)", "heads": "(history, view)",
         "least_view": "(history, marks)", "part": "(history, view)", "sequence": "(history)",
         "is_sequence": "(history, value)",
+    },
+    "unmixed.brothers": {
+        "left_of": "(history, thing)", "right_of": "(history, thing)", "hangs_on": "(history, one, other)",
+        "brothers_behind": "(history, left)", "stretch": "(history, thing)", "is_ahead": "(history, one, other)",
+        "led_by": "(history, thing)", "roots": "(history, left)", "told_ahead": "(history, left)",
+    },
+    "unmixed.orders": {
+        "order": "(history)", "order_in": "(history, view)", "is_order": "(history, value)",
+        "reasons": "(history, value)", "decided": "(history, one, other)", "place_of": "(history, thing)",
+    },
+    "unmixed.firsts": {
+        "is_first": "(history, value)", "brother_orders": "(history, left)", "first_by": "(history, choice)",
+        "choice_of": "(history, things)", "many_first": "(history)", "all_first": "(history)",
     },
 }
 METHODS = {"hands": "(self)", "deeds": "(self, hand)", "things": "(self)", "size": "(self)"}
@@ -144,6 +160,71 @@ class NothingChanges(unittest.TestCase):
         for mark in sequence(one):
             self.assertEqual(repr(least_view(one, [mark])), repr(least_view(other, [mark])))
             self.assertEqual(repr(past_of(one, mark)), repr(past_of(other, mark)))
+
+
+def spoil(value):
+    """Change each list and each dictionary within what was returned."""
+    for member in list(value.values()) if isinstance(value, dict) else value:
+        if isinstance(member, (list, tuple, dict)):
+            spoil(member)
+    if isinstance(value, list):
+        value.append("spoilt")
+    if isinstance(value, dict):
+        value["spoilt"] = "spoilt"
+
+
+def copy_of(value):
+    """A copy of an argument, with new lists and dictionaries, the items of these in their sequence."""
+    if isinstance(value, (list, tuple)):
+        return type(value)([copy_of(member) for member in value])
+    return {key: copy_of(value[key]) for key in value} if isinstance(value, dict) else value
+
+
+A, B, C = ("ann", 0), ("bob", 0), ("cy", 0)
+TALK_ORDER = [A, B, C, ("ann", 1), ("ann", 2)]
+TALK_CHOICE = {("ann", 1): [("ann", 2)], A: [C, B, ("ann", 1)], None: [A]}
+# Calls of the history "talk" with what they are passed besides; each returns lists, dictionaries or tuples.
+TALK_CALLS = [
+    (brothers_behind, [A]), (brothers_behind, [None]), (stretch, [A]), (led_by, [("ann", 1)]), (roots, [A]),
+    (told_ahead, [A]), (order, []), (order_in, [{"bob": 1, "ann": 2}]), (reasons, [TALK_ORDER[::-1]]),
+    (decided, [B, C]), (brother_orders, [A]), (brother_orders, [B]), (first_by, [TALK_CHOICE]),
+    (choice_of, [TALK_ORDER]), (all_first, []),
+]
+
+
+class NothingIsShared(unittest.TestCase):
+    """[2]"""
+
+    def test_what_was_returned_may_be_changed(self):
+        talk = History(talk_deeds())
+        told = [repr(call(talk, *copy_of(passed))) for call, passed in TALK_CALLS]
+        for call, passed in TALK_CALLS:
+            spoil(call(talk, *copy_of(passed)))
+        self.assertEqual([repr(call(talk, *copy_of(passed))) for call, passed in TALK_CALLS], told)
+        self.assertEqual(talk, History(talk_deeds()))
+
+    def test_what_was_passed_stays_and_may_be_changed(self):
+        talk = History(talk_deeds())
+        for call, passed in [*TALK_CALLS, (is_order, [TALK_ORDER]), (is_first, [TALK_ORDER])]:
+            given = copy_of(passed)
+            found = call(talk, *given)
+            self.assertEqual(repr(given), repr(passed), call)
+            told = repr(found)
+            spoil(given)
+            self.assertEqual(repr(found), told, call)
+
+    def test_what_was_returned_is_no_part_of_what_was_passed(self):
+        talk = History(talk_deeds())
+        for call, passed in TALK_CALLS:
+            given = copy_of(passed)
+            spoil(call(talk, *given))
+            self.assertEqual(repr(given), repr(passed), call)
+
+    def test_equal_histories_are_told_alike(self):
+        deeds = talk_deeds()
+        other = History({hand: deeds[hand] for hand in ["cy", "bob", "ann"]})
+        for call, passed in TALK_CALLS:
+            self.assertEqual(repr(call(other, *passed)), repr(call(History(deeds), *passed)), call)
 
 
 class Limits(unittest.TestCase):

@@ -1,21 +1,14 @@
 import random
 import unittest
 
-from samples import HANDS, NO_MARKS, NO_VIEWS, both_deeds, nested, random_deeds, talk_deeds
+from samples import HANDS, NO_MARKS, both_deeds, nested, random_deeds, talk_deeds
 from slow import views_of
 from unmixed.errors import InvalidHistory, InvalidMark, InvalidView, RowError
 from unmixed.histories import History, past_of
 from unmixed.views import (
     has_view, heads, is_sequence, is_view, joined, least_view, part, sequence, shared, whole,
 )
-
-HUGE = 10 ** 29
-NO_HISTORIES = [None, True, 0, "ann", [], (), both_deeds(), {}, RowError(), nested(40), History]
-# Views by their form, but not of the history of the samples called "talk".
-NO_TALK_VIEWS = [
-    {"bob": 1}, {"ann": 1, "bob": 1}, {"ann": 4}, {"ann": 3, "dan": 1}, {"ann": HUGE}, {"cy": 1}, {"dan": HUGE},
-    {"ann": 3, "bob": 3},
-]
+from wrongs import HUGE, NO_HISTORIES, NO_TALK_VIEWS
 
 
 def marks_in(view):
@@ -43,7 +36,7 @@ class Views(unittest.TestCase):
 
     def test_what_is_no_view(self):
         talk = History(talk_deeds())
-        for value in [*NO_VIEWS, *NO_TALK_VIEWS, nested(40), {"ann": nested(39)}]:
+        for value in [*NO_TALK_VIEWS, nested(40), {"ann": nested(39)}]:
             self.assertIs(is_view(talk, value), False, repr(value))
 
     def test_just_the_closed_ones_are_views(self):
@@ -122,7 +115,7 @@ class Two(unittest.TestCase):
     def test_wrong_views_one_by_one(self):
         talk = History(talk_deeds())
         for call in [joined, shared, has_view]:
-            for view in [*NO_VIEWS, *NO_TALK_VIEWS, nested(40)]:
+            for view in [*NO_TALK_VIEWS, nested(40)]:
                 for arguments in [(view, None), (view, {}), ({}, view), ({"ann": 1}, view)]:
                     with self.assertRaises(InvalidView) as held:
                         call(talk, *arguments)
@@ -175,7 +168,7 @@ class HeadsAndLeast(unittest.TestCase):
 
     def test_wrong_views(self):
         talk = History(talk_deeds())
-        for view in [*NO_VIEWS, *NO_TALK_VIEWS, nested(40)]:
+        for view in [*NO_TALK_VIEWS, nested(40)]:
             for call in [heads, part]:
                 with self.assertRaises(InvalidView) as held:
                     call(talk, view)

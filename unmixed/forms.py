@@ -52,3 +52,8 @@ def has_deeds_form(value):
 def is_deed_list(value):
     """Return whether any object is a list of at least one deed."""
     return isinstance(value, list) and len(value) > 0 and all([has_deed_form(deed) for deed in value])
+
+
+def is_list_of(value, marks):
+    """Return whether any object is a list of ascending marks, each once, in any sequence."""
+    return isinstance(value, list) and all([has_mark_form(mark) for mark in value]) and sorted(value) == marks

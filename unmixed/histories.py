@@ -15,9 +15,12 @@ class History:
     """What some hands did; it never changes."""
 
     def __init__(self, deeds):
-        if first_wrong(deeds) is not None:
+        wrong, order = judged(deeds)
+        if wrong is not None:
             raise InvalidHistory(deeds)
         self._deeds = {hand: [copied(deed) for deed in deeds[hand]] for hand in sorted(deeds)}
+        # It came with the judging and is asked for often; it stays, as the history does.
+        self._order = order
 
     def __eq__(self, other):
         return isinstance(other, History) and self._deeds == other._deeds
@@ -40,6 +43,10 @@ class History:
         """Return the number of the deeds."""
         return sum([len(self._deeds[hand]) for hand in self._deeds])
 
+    def order(self):
+        """Return the one order of the things."""
+        return list(self._order)
+
 
 def copied(deed):
     """Return a deed whose past is a new dictionary, hands ascending."""
@@ -48,19 +55,29 @@ def copied(deed):
 
 def first_wrong(deeds):
     """Return the first point of a history that any object does not meet, with the least mark, None if it meets all."""
+    wrong, _ = judged(deeds)
+    return wrong
+
+
+def judged(deeds):
+    """Return what first_wrong tells of any object and, where this is None, the order of the things."""
     if not has_deeds_form(deeds):
-        return ("form", None)
+        return ("form", None), []
     pasts = {(hand, at): deed[-1] for hand in sorted(deeds) for at, deed in enumerate(deeds[hand])}
     for mark in pasts:
         if pasts[mark].get(mark[0], 0) != mark[1]:
-            return ("own", mark)
+            return ("own", mark), []
     for mark in pasts:
         if not has_only(deeds, pasts[mark]):
-            return ("there", mark)
+            return ("there", mark), []
     for mark in pasts:
         if not is_closed(pasts, pasts[mark]):
-            return ("closed", mark)
-    return first_misplaced(deeds, pasts)
+            return ("closed", mark), []
+    wrong, order = judged_places(deeds, pasts)
+    if not wrong:
+        return None, order
+    least = min(wrong)
+    return (wrong[least], least), []
 
 
 def has_only(deeds, view):
@@ -73,8 +90,8 @@ def is_closed(pasts, view):
     return all([is_within(pasts[mark], view) for mark in marks_of(view)])
 
 
-def first_misplaced(deeds, pasts):
-    """Return the word and the least mark of a deed that does not fit the order of its past, None if all fit.
+def judged_places(deeds, pasts):
+    """Return the words of the deeds that do not fit the order of their pasts, by marks, and the order of the others.
 
     Deeds with such a one in their past are passed over: their past has no order.
     """
@@ -91,10 +108,7 @@ def first_misplaced(deeds, pasts):
         elif deed[0] == "put":
             neighbours[mark] = (deed[2], deed[3])
             order = walked(neighbours, order)
-    if not wrong:
-        return None
-    least = min(wrong)
-    return (wrong[least], least)
+    return wrong, order
 
 
 def is_fitting(deed, order):

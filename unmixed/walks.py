@@ -1,5 +1,7 @@
 """The walk that tells the one order of things put between neighbours."""
 
+from unmixed.kin import is_put_ahead, places_in
+
 
 def walked(neighbours, known):
     """Return the order of the things of a dictionary from things to tuples of left and right neighbour.
@@ -23,13 +25,12 @@ def walked(neighbours, known):
 
 def brothers_sorted(neighbours, known):
     """Return the roots behind each left neighbour and the things put ahead of each thing, as the walk takes them."""
-    places = {thing: at for at, thing in enumerate(known)}
-    places[None] = len(known)
+    places = places_in(known)
     ranked = {}
     leads = {}
     for thing in sorted(neighbours):
         left, right = neighbours[thing]
-        if right is not None and neighbours[right][0] == left:
+        if is_put_ahead(neighbours, thing):
             leads.setdefault(right, []).append(thing)
         else:
             # The later the right neighbour, the sooner the thing comes.
