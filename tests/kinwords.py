@@ -139,6 +139,50 @@ def is_mirror_list(neighbours, things):
     return True
 
 
+def own_bars(neighbours):
+    """[42]"""
+    return sorted((thing, other) for thing in neighbours for other in neighbours
+                  if hangs(neighbours, other, thing) and not leans(neighbours, other, neighbours[thing][1]))
+
+
+def both_brothers(neighbours, left):
+    """[42], of all lists of the brothers"""
+    lists = [list(listed) for listed in itertools.permutations(brothers(neighbours, left))]
+    return [listed for listed in lists if serves_both(neighbours, left, listed)]
+
+
+def serves_both(neighbours, left, listed):
+    if not all(stands_ahead(listed, one, other) for one, other in told(neighbours, left)):
+        return False
+    for thing, (_, right) in neighbours.items():
+        if right is None:
+            continue
+        way = [thing]
+        while neighbours[way[-1]][0] != neighbours[right][0]:
+            way.append(neighbours[way[-1]][0])
+        for came, onto in zip(way, way[1:]):
+            if onto == left and not all(is_clean(neighbours, x, right) for x in inside(listed, came, None)):
+                return False
+        if neighbours[right][0] == left:
+            if not all(is_clean(neighbours, x, right) for x in inside(listed, way[-1], right)):
+                return False
+    return True
+
+
+def is_clean(neighbours, brother, thing):
+    return all(leans(neighbours, x, thing) for x in stretch(neighbours, brother))
+
+
+def both_lists(neighbours):
+    """All lists of all things that keep the first rule and its mirror."""
+    return [x for x in lists_of(neighbours) if is_first_list(neighbours, x) and is_mirror_list(neighbours, x)]
+
+
+def is_torn(neighbours):
+    lists = map(list, itertools.permutations(sorted(neighbours)))
+    return not any(is_first_list(neighbours, x) and is_mirror_list(neighbours, x) for x in lists)
+
+
 def lists_of(neighbours):
     """All lists of all things, ascending."""
     return [list(things) for things in itertools.permutations(sorted(neighbours))]

@@ -130,14 +130,17 @@ def random_deeds(chance, hands, many, things=30, heard=0.5, strikes=0.2):
     return deeds
 
 
-def wide_deeds(chance, hands, many, strikes=0.1):
-    """What hands do each of which hears of few deeds: some put apart first, then they put between two that they saw."""
+def wide_deeds(chance, hands, many, strikes=0.1, ended=True):
+    """What hands do each of which hears of few deeds: some put apart first, then they put between two that they saw.
+
+    They seldom put at the row's end, unless `ended`.
+    """
     deeds, order, neighbours = {}, [], {}
     for at in range(many):
         hand = min(hands, key=lambda other: len(deeds.get(other, [])) + chance.random() * 1.5)
         number = len(deeds.get(hand, []))
         heard = [(hand, number - 1)] if number else []
-        if at > len(hands) // 2:
+        if at >= min(3, len(hands)):
             heard += chance.sample(sorted(neighbours), min(len(neighbours), chance.choice([1, 1, 2])))
         past = {}
         for owner, last in heard:
@@ -150,7 +153,8 @@ def wide_deeds(chance, hands, many, strikes=0.1):
             fenced = [None, *seen, None]
             places = list(zip(fenced, fenced[1:]))
             # Most often where the right neighbour is no brother, so that its place decides.
-            far = [place for place in places if place[0] and (not place[1] or neighbours[place[1]][0] != place[0])]
+            far = [(left, right) for left, right in places if left and right and neighbours[right][0] != left]
+            far += [(left, right) for left, right in places if left and not right and ended]
             deed = ("put", chance.choice(["x", "y", "word"]), *chance.choice(places + 3 * far), past)
             neighbours[(hand, number)] = deed[2:4]
             order = told_order(neighbours)
@@ -170,3 +174,68 @@ def small_deeds(seed, many, size, hands=5):
             heard = chance.choice([0.05, 0.3, 0.5, 0.9])
             found.append(random_deeds(chance, named, chance.randint(1, size + 2), things=size, heard=heard))
     return found
+
+
+def typed_deeds(chance, hands, many, heard=0.3, strikes=0.15):
+    """What hands do that mostly go on typing, forward or backward, where they put last."""
+    deeds, views, order, neighbours, last = {}, {hand: {} for hand in hands}, [], {}, {}
+    ways = {hand: chance.choice([0, 1]) for hand in hands}
+    for _ in range(many):
+        hand, other = chance.choice(hands), chance.choice(hands)
+        if chance.random() < heard:
+            for owner, count in views[other].items():
+                views[hand][owner] = max(views[hand].get(owner, 0), count)
+        past = dict(views[hand])
+        seen = [thing for thing in order if thing[1] < past.get(thing[0], 0)]
+        mark = (hand, len(deeds.get(hand, [])))
+        if seen and chance.random() < strikes:
+            deed = ("strike", chance.choice(seen), past)
+        else:
+            if chance.random() < 0.2:
+                ways[hand] = chance.choice([0, 1])
+            at = chance.randrange(len(seen) + 1)
+            if hand in last and chance.random() < 0.75:
+                at = seen.index(last[hand]) + 1 - ways[hand]
+            deed = ("put", chance.choice(["x", "y", "word"]), *([None, *seen, None][at:at + 2]), past)
+            neighbours[mark], last[hand] = deed[2:4], mark
+            order = told_order(neighbours)
+        deeds.setdefault(hand, []).append(deed)
+        views[hand][hand] = mark[1] + 1
+    return deeds
+
+
+def many_typed(seed, many, size, hands=5):
+    chance = random.Random(seed)
+    return [typed_deeds(chance, HANDS[:chance.randint(2, hands)], chance.randint(1, size)) for _ in range(many)]
+
+
+def back_deeds():
+    return {
+        "ann": [
+            ("put", "c", None, None, {}), ("put", "b", None, ("ann", 0), {"ann": 1}),
+            ("put", "a", None, ("ann", 1), {"ann": 2}),
+        ],
+        "bob": [("put", "z", None, None, {}), ("put", "y", None, ("bob", 0), {"bob": 1})],
+    }
+
+
+def torn_deeds():
+    """The document's example of a torn history, of three hands."""
+    return {
+        "ann": [("put", "a", None, None, {}), ("put", "x", ("ann", 0), ("cy", 0), {"ann": 1, "cy": 1})],
+        "bob": [("put", "b", None, None, {}), ("put", "y", ("bob", 0), ("cy", 0), {"bob": 1, "cy": 1})],
+        "cy": [("put", "r", None, None, {})],
+    }
+
+
+def late_deeds():
+    """The document's example of own bars."""
+    return {
+        "ann": [("put", "a", None, None, {})],
+        "bob": [("put", "b", None, None, {})],
+        "cy": [
+            ("put", "r", None, None, {}),
+            ("put", "x", ("ann", 0), ("cy", 0), {"ann": 1, "cy": 1}),
+            ("put", "z", ("cy", 1), ("bob", 0), {"ann": 1, "bob": 1, "cy": 2}),
+        ],
+    }

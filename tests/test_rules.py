@@ -4,11 +4,20 @@ import time
 import unittest
 
 from samples import both_deeds, four_deeds, largest_deeds, nested, talk_deeds
+from unmixed.between import between, came_between, parted_since, why_between
 from unmixed.brothers import brothers_behind, led_by, roots, stretch, told_ahead
 from unmixed.errors import InvalidMark
-from unmixed.firsts import all_first, brother_orders, choice_of, first_by, is_first
+from unmixed.firsts import all_first, brother_orders, choice_of, first_by, is_first, many_first
 from unmixed.histories import History, first_wrong, grown, has_heard, is_mark, past_of
+from unmixed.mirrors import (
+    any_both, both_brothers, both_orders, is_mirror, many_both, own_bars, torn_at, torn_views,
+)
 from unmixed.orders import decided, is_order, order, order_in, reasons
+from unmixed.runs import are_apart, backward_runs, forward_runs, mixed_in, pieces_by_hands
+from unmixed.shown import (
+    neighbours_at, place_shown, put_at, row, rows_seen, seen_by, shown, strike_at, strikers, struck, thing_shown,
+    who_shows,
+)
 from unmixed.views import (
     has_view, heads, is_sequence, is_view, joined, least_view, part, sequence, shared, whole,
 )
@@ -36,6 +45,26 @@ INTERFACE = {
     "unmixed.firsts": {
         "is_first": "(history, value)", "brother_orders": "(history, left)", "first_by": "(history, choice)",
         "choice_of": "(history, things)", "many_first": "(history)", "all_first": "(history)",
+    },
+    "unmixed.between": {
+        "between": "(history, one, other)", "came_between": "(history, thing)", "why_between": "(history, thing)",
+        "parted_since": "(history, view)",
+    },
+    "unmixed.runs": {
+        "forward_runs": "(history)", "backward_runs": "(history)", "mixed_in": "(history, run)",
+        "are_apart": "(history, one, other)", "pieces_by_hands": "(history)",
+    },
+    "unmixed.mirrors": {
+        "is_mirror": "(history, value)", "own_bars": "(history)", "both_brothers": "(history, left)",
+        "both_orders": "(history)", "many_both": "(history)", "any_both": "(history)", "is_torn": "(history)",
+        "torn_at": "(history)", "is_kept_both": "(history)", "torn_views": "(history)",
+    },
+    "unmixed.shown": {
+        "struck": "(history, view)", "strikers": "(history, view, thing)", "shown": "(history, view)",
+        "row": "(history, view)", "place_shown": "(history, view, thing)", "thing_shown": "(history, view, place)",
+        "neighbours_at": "(history, view, place)", "seen_by": "(history, hand)",
+        "put_at": "(history, hand, place, word)", "strike_at": "(history, hand, place)",
+        "rows_seen": "(history, hand)", "who_shows": "(history, view)",
     },
 }
 METHODS = {"hands": "(self)", "deeds": "(self, hand)", "things": "(self)", "size": "(self)"}
@@ -182,6 +211,7 @@ def copy_of(value):
 
 A, B, C = ("ann", 0), ("bob", 0), ("cy", 0)
 TALK_ORDER = [A, B, C, ("ann", 1), ("ann", 2)]
+TALK_VIEW = {"bob": 2, "ann": 3}
 TALK_CHOICE = {("ann", 1): [("ann", 2)], A: [C, B, ("ann", 1)], None: [A]}
 # Calls of the history "talk" with what they are passed besides; each returns lists, dictionaries or tuples.
 TALK_CALLS = [
@@ -189,6 +219,17 @@ TALK_CALLS = [
     (told_ahead, [A]), (order, []), (order_in, [{"bob": 1, "ann": 2}]), (reasons, [TALK_ORDER[::-1]]),
     (decided, [B, C]), (brother_orders, [A]), (brother_orders, [B]), (first_by, [TALK_CHOICE]),
     (choice_of, [TALK_ORDER]), (all_first, []),
+    (between, [A, ("ann", 2)]), (came_between, [("ann", 1)]), (why_between, [("ann", 1)]),
+    (parted_since, [{"bob": 1, "ann": 2}]), (forward_runs, []), (backward_runs, []), (mixed_in, [[("ann", 1), A]]),
+    (pieces_by_hands, []), (own_bars, []), (both_brothers, [A]), (both_brothers, [B]), (both_orders, []),
+    (any_both, []), (torn_at, []), (torn_views, []), (struck, [TALK_VIEW]), (strikers, [TALK_VIEW, ("ann", 1)]),
+    (shown, [TALK_VIEW]), (row, [TALK_VIEW]), (neighbours_at, [TALK_VIEW, 1]), (seen_by, ["bob"]), (seen_by, ["dan"]),
+    (rows_seen, ["bob"]), (rows_seen, ["dan"]), (who_shows, [TALK_VIEW]),
+]
+# Calls that return no lists and no dictionaries.
+TALK_ASKS = [
+    (is_order, [TALK_ORDER]), (is_first, [TALK_ORDER]), (is_mirror, [TALK_ORDER]), (are_apart, [[B, A], [C]]),
+    (place_shown, [TALK_VIEW, ("ann", 1)]), (thing_shown, [TALK_VIEW, 1]), (many_first, []), (many_both, []),
 ]
 
 
@@ -205,7 +246,7 @@ class NothingIsShared(unittest.TestCase):
 
     def test_what_was_passed_stays_and_may_be_changed(self):
         talk = History(talk_deeds())
-        for call, passed in [*TALK_CALLS, (is_order, [TALK_ORDER]), (is_first, [TALK_ORDER])]:
+        for call, passed in [*TALK_CALLS, *TALK_ASKS]:
             given = copy_of(passed)
             found = call(talk, *given)
             self.assertEqual(repr(given), repr(passed), call)
@@ -223,8 +264,17 @@ class NothingIsShared(unittest.TestCase):
     def test_equal_histories_are_told_alike(self):
         deeds = talk_deeds()
         other = History({hand: deeds[hand] for hand in ["cy", "bob", "ann"]})
-        for call, passed in TALK_CALLS:
+        for call, passed in [*TALK_CALLS, *TALK_ASKS]:
             self.assertEqual(repr(call(other, *passed)), repr(call(History(deeds), *passed)), call)
+
+    def test_histories_grown_at_places_share_nothing(self):
+        talk = History(talk_deeds())
+        for history in [put_at(talk, "bob", 1, "yet"), strike_at(talk, "bob", 1)]:
+            told = repr([history.deeds(hand) for hand in history.hands()])
+            spoil(history.deeds("bob"))
+            spoil(seen_by(talk, "bob"))
+            self.assertEqual(repr([history.deeds(hand) for hand in history.hands()]), told)
+        self.assertEqual(talk, History(talk_deeds()))
 
 
 class Limits(unittest.TestCase):

@@ -137,8 +137,7 @@ def has_heard(history, one, other):
 def grown(history, hand, deed):
     """Return the history with one deed more of a hand, behind its others."""
     check_history(history)
-    if not is_word(hand):
-        raise InvalidHand(hand)
+    check_hand(hand)
     if not has_deed_form(deed):
         raise InvalidDeed(deed)
     deeds = {other: history.deeds(other) for other in history.hands()}
@@ -164,6 +163,12 @@ def check_history(history):
     """Raise InvalidHistory for what is no history."""
     if not isinstance(history, History):
         raise InvalidHistory(history)
+
+
+def check_hand(hand):
+    """Raise InvalidHand for what is no hand; it need not have deeds."""
+    if not is_word(hand):
+        raise InvalidHand(hand)
 
 
 def check_mark(history, mark):

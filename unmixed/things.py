@@ -5,9 +5,14 @@ from unmixed.forms import has_mark_form, is_list_of
 from unmixed.histories import check_history
 
 
+def deeds_by_marks(history):
+    """Return the dictionary from the marks of all deeds of a history, ascending, to the deeds."""
+    return {(hand, at): deed for hand in history.hands() for at, deed in enumerate(history.deeds(hand))}
+
+
 def neighbours_in(history):
     """Return the dictionary from the things of a history, ascending, to tuples of their left and right neighbour."""
-    deeds = {(hand, at): deed for hand in history.hands() for at, deed in enumerate(history.deeds(hand))}
+    deeds = deeds_by_marks(history)
     return {mark: (deeds[mark][2], deeds[mark][3]) for mark in history.things()}
 
 
