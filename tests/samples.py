@@ -239,3 +239,37 @@ def late_deeds():
             ("put", "z", ("cy", 1), ("bob", 0), {"ann": 1, "bob": 1, "cy": 2}),
         ],
     }
+
+
+def settling_deeds(chance, hands, before, after, strikes=0.3):
+    """Deeds of hands, then all hear all, then deeds of hands again: with the view at which all had heard all.
+
+    What comes behind goes to places of rows most often, and seldom refers to what was struck by then.
+    """
+    deeds = random_deeds(chance, hands, before, heard=0.4, strikes=strikes)
+    settled = {hand: len(deeds[hand]) for hand in sorted(deeds)}
+    neighbours, views = {}, {hand: dict(settled) for hand in hands}
+    for mark in sorted(((hand, at) for hand in deeds for at in range(len(deeds[hand]))),
+                       key=lambda mark: (sum(deeds[mark[0]][mark[1]][-1].values()), mark)):
+        if deeds[mark[0]][mark[1]][0] == "put":
+            neighbours[mark] = deeds[mark[0]][mark[1]][2:4]
+    for _ in range(after):
+        hand, other = chance.choice(hands), chance.choice(hands)
+        if chance.random() < 0.5:
+            for owner, count in views[other].items():
+                views[hand][owner] = max(views[hand].get(owner, 0), count)
+        past = dict(views[hand])
+        gone = [deeds[owner][at][1] for owner in past for at in range(past[owner]) if deeds[owner][at][0] == "strike"]
+        order = [thing for thing in told_order(neighbours) if thing[1] < past.get(thing[0], 0)]
+        left = [thing for thing in order if thing not in gone or chance.random() < 0.05]
+        mark = (hand, len(deeds.get(hand, [])))
+        if left and chance.random() < strikes:
+            deed = ("strike", chance.choice(left), past)
+        else:
+            behind = chance.choice([None, *left])
+            fenced = [None, *order, None]
+            deed = ("put", chance.choice(["x", "y", "word"]), behind, fenced[fenced.index(behind) + 1], past)
+            neighbours[mark] = deed[2:4]
+        deeds.setdefault(hand, []).append(deed)
+        views[hand][hand] = mark[1] + 1
+    return deeds, settled

@@ -8,7 +8,11 @@ from unmixed.between import between, came_between, parted_since, why_between
 from unmixed.brothers import brothers_behind, led_by, roots, stretch, told_ahead
 from unmixed.errors import InvalidMark
 from unmixed.firsts import all_first, brother_orders, choice_of, first_by, is_first, many_first
+from unmixed.folding import folded, folded_view, is_foldable, is_settled
 from unmixed.histories import History, first_wrong, grown, has_heard, is_mark, past_of
+from unmixed.lots import (
+    all_by_lots, asked_in_lots, dealing_of, keeps_three, list_by, lot_of, lots, many_by_lots, many_set,
+)
 from unmixed.mirrors import (
     any_both, both_brothers, both_orders, is_mirror, many_both, own_bars, torn_at, torn_views,
 )
@@ -18,6 +22,7 @@ from unmixed.shown import (
     neighbours_at, place_shown, put_at, row, rows_seen, seen_by, shown, strike_at, strikers, struck, thing_shown,
     who_shows,
 )
+from unmixed.versions import by_whom, changes, kept, known_since, lacks, rewritten, words_of
 from unmixed.views import (
     has_view, heads, is_sequence, is_view, joined, least_view, part, sequence, shared, whole,
 )
@@ -65,6 +70,20 @@ INTERFACE = {
         "neighbours_at": "(history, view, place)", "seen_by": "(history, hand)",
         "put_at": "(history, hand, place, word)", "strike_at": "(history, hand, place)",
         "rows_seen": "(history, hand)", "who_shows": "(history, view)",
+    },
+    "unmixed.versions": {
+        "kept": "(history, one, other)", "changes": "(history, one, other)", "rewritten": "(words, steps)",
+        "by_whom": "(history, one)", "known_since": "(history, thing)", "lacks": "(history, one, other)",
+        "words_of": "(history, one, hand)",
+    },
+    "unmixed.lots": {
+        "lots": "(history)", "lot_of": "(history, thing)", "keeps_three": "(history, value)",
+        "list_by": "(history, dealing)", "dealing_of": "(history, things)", "many_by_lots": "(history)",
+        "all_by_lots": "(history)", "asked_in_lots": "(history)", "many_set": "(history)",
+    },
+    "unmixed.folding": {
+        "is_settled": "(history, view)", "is_foldable": "(history, view)", "folded": "(history, view)",
+        "folded_view": "(history, view, later)",
     },
 }
 METHODS = {"hands": "(self)", "deeds": "(self, hand)", "things": "(self)", "size": "(self)"}
@@ -224,12 +243,18 @@ TALK_CALLS = [
     (pieces_by_hands, []), (own_bars, []), (both_brothers, [A]), (both_brothers, [B]), (both_orders, []),
     (any_both, []), (torn_at, []), (torn_views, []), (struck, [TALK_VIEW]), (strikers, [TALK_VIEW, ("ann", 1)]),
     (shown, [TALK_VIEW]), (row, [TALK_VIEW]), (neighbours_at, [TALK_VIEW, 1]), (seen_by, ["bob"]), (seen_by, ["dan"]),
-    (rows_seen, ["bob"]), (rows_seen, ["dan"]), (who_shows, [TALK_VIEW]),
+    (rows_seen, ["bob"]), (rows_seen, ["dan"]), (who_shows, [TALK_VIEW]), (kept, [{"ann": 3}, TALK_VIEW]),
+    (changes, [{"ann": 3}, {"bob": 1, "ann": 2}]), (by_whom, [TALK_VIEW]), (known_since, [("ann", 1)]),
+    (lacks, [{"ann": 2}, TALK_VIEW]), (words_of, [TALK_VIEW, "ann"]), (lots, []), (lot_of, [B]),
+    (list_by, [[[C, B]]]), (dealing_of, [TALK_ORDER]), (all_by_lots, []), (asked_in_lots, []),
+    (folded_view, [{"ann": 2}, TALK_VIEW]),
 ]
 # Calls that return no lists and no dictionaries.
 TALK_ASKS = [
     (is_order, [TALK_ORDER]), (is_first, [TALK_ORDER]), (is_mirror, [TALK_ORDER]), (are_apart, [[B, A], [C]]),
     (place_shown, [TALK_VIEW, ("ann", 1)]), (thing_shown, [TALK_VIEW, 1]), (many_first, []), (many_both, []),
+    (keeps_three, [TALK_ORDER]), (many_by_lots, []), (many_set, []), (is_settled, [{"ann": 2}]),
+    (is_foldable, [{"ann": 2}]),
 ]
 
 
@@ -267,9 +292,19 @@ class NothingIsShared(unittest.TestCase):
         for call, passed in [*TALK_CALLS, *TALK_ASKS]:
             self.assertEqual(repr(call(other, *passed)), repr(call(History(deeds), *passed)), call)
 
-    def test_histories_grown_at_places_share_nothing(self):
+    def test_rows_rewritten_share_nothing(self):
+        words, steps = ["we", "go"], [(1, ["go"], ["may", "not"])]
+        found = rewritten(words, steps)
+        spoil(steps)
+        words.clear()
+        self.assertEqual(found, ["we", "may", "not"])
+        words, steps = ["we", "go"], [(1, ["go"], ["may", "not"])]
+        spoil(rewritten(words, steps))
+        self.assertEqual([words, steps], [["we", "go"], [(1, ["go"], ["may", "not"])]])
+
+    def test_histories_made_of_others_share_nothing(self):
         talk = History(talk_deeds())
-        for history in [put_at(talk, "bob", 1, "yet"), strike_at(talk, "bob", 1)]:
+        for history in [put_at(talk, "bob", 1, "yet"), strike_at(talk, "bob", 1), folded(talk, {"ann": 2})]:
             told = repr([history.deeds(hand) for hand in history.hands()])
             spoil(history.deeds("bob"))
             spoil(seen_by(talk, "bob"))

@@ -8,12 +8,8 @@ from unmixed.walks import walked
 
 
 def order_of(neighbours):
-    """The order by the walk, one thing more at a time; things stand behind their neighbours in the dictionary."""
-    order, known = [], {}
-    for thing in neighbours:
-        known[thing] = neighbours[thing]
-        order = walked(known, order)
-    return order
+    """The order by the walk; things stand behind their neighbours in the dictionary."""
+    return walked([(thing, *neighbours[thing]) for thing in neighbours])
 
 
 def samples(seed, many, hands, size):
@@ -29,7 +25,7 @@ class Orders(unittest.TestCase):
     """[23] and [28]"""
 
     def test_nothing(self):
-        self.assertEqual(walked({}, []), [])
+        self.assertEqual(walked([]), [])
 
     def test_runs_typed_forward_are_not_mixed(self):
         order = [("ann", 0), ("ann", 1), ("bob", 0), ("bob", 1)]

@@ -10,6 +10,11 @@ def is_word(value):
     return all(["a" <= letter <= "z" for letter in value])
 
 
+def is_word_list(value):
+    """Return whether any object is a list of words, perhaps empty."""
+    return isinstance(value, list) and all([is_word(word) for word in value])
+
+
 def is_count(value):
     """Return whether any object is a whole number of at least 0."""
     # Python takes True and False for integers; the document never does.

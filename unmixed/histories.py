@@ -3,7 +3,7 @@
 from unmixed.errors import InvalidDeed, InvalidHand, InvalidHistory, InvalidMark, Refused
 from unmixed.forms import has_deed_form, has_deeds_form, has_mark_form, is_word
 from unmixed.pasts import ascending, has_mark, in_sequence, is_within, marks_of
-from unmixed.walks import walked
+from unmixed.walks import Walk
 
 
 def is_mark(value):
@@ -95,20 +95,18 @@ def judged_places(deeds, pasts):
 
     Deeds with such a one in their past are passed over: their past has no order.
     """
-    neighbours = {}
-    order = []
+    walk = Walk()
     wrong = {}
     for mark in in_sequence(pasts):
         deed = deeds[mark[0]][mark[1]]
         past = pasts[mark]
         if any([has_mark(past, other) for other in wrong]):
             continue
-        if not is_fitting(deed, [thing for thing in order if has_mark(past, thing)]):
+        if not is_fitting(deed, [thing for thing in walk.listed if has_mark(past, thing)]):
             wrong[mark] = "beside" if deed[0] == "put" else "struck"
         elif deed[0] == "put":
-            neighbours[mark] = (deed[2], deed[3])
-            order = walked(neighbours, order)
-    return wrong, order
+            walk.place(mark, deed[2], deed[3])
+    return wrong, walk.listed
 
 
 def is_fitting(deed, order):

@@ -92,25 +92,33 @@ def decided(history, one, other):
     if one == other:
         raise Refused(one)
     neighbours = neighbours_in(history)
+    word, first, last = deciding(neighbours, one, other)
+    if word is not None:
+        return (word, first, last)
+    places = places_in(history.order())
+    word = "mark" if neighbours[first] == neighbours[last] else "farther"
+    return (word, first, last) if places[first] < places[last] else (word, last, first)
+
+
+def deciding(neighbours, one, other):
+    """Return the word and the two things that decide which of two things comes first, the first one ahead.
+
+    Where the two that decide are told apart by their right neighbours or by their marks, the word is None, and they
+    stand as the two things of which they decide.
+    """
     ones, others = hang_way(neighbours, one), hang_way(neighbours, other)
     if other in ones:
         return ("behind", other, one)
     if one in others:
         return ("behind", one, other)
     x, y = last_apart(ones, others)
-    return decided_brothers(neighbours, places_in(history.order()), x, y)
-
-
-def decided_brothers(neighbours, places, one, other):
-    """Return by what it is decided which of two brothers comes first."""
-    ones, others = lead_way(neighbours, one), lead_way(neighbours, other)
-    if other in ones:
-        return ("ahead", one, other)
-    if one in others:
-        return ("ahead", other, one)
+    ones, others = lead_way(neighbours, x), lead_way(neighbours, y)
+    if y in ones:
+        return ("ahead", x, y)
+    if x in others:
+        return ("ahead", y, x)
     x, y = last_apart(ones, others)
-    word = "mark" if neighbours[x] == neighbours[y] else "farther"
-    return (word, x, y) if places[x] < places[y] else (word, y, x)
+    return (None, x, y)
 
 
 def last_apart(one, other):
