@@ -6,6 +6,7 @@ import unittest
 from samples import both_deeds, four_deeds, largest_deeds, nested, talk_deeds
 from unmixed.between import between, came_between, parted_since, why_between
 from unmixed.brothers import brothers_behind, led_by, roots, stretch, told_ahead
+from unmixed.devices import Net
 from unmixed.errors import InvalidMark
 from unmixed.firsts import all_first, brother_orders, choice_of, first_by, is_first, many_first
 from unmixed.folding import folded, folded_view, is_foldable, is_settled
@@ -85,8 +86,26 @@ INTERFACE = {
         "is_settled": "(history, view)", "is_foldable": "(history, view)", "folded": "(history, view)",
         "folded_view": "(history, view, later)",
     },
+    "unmixed.toldback": {
+        "are_rows": "(value)", "told_back": "(rows)", "rows_of": "(history)", "first_fault": "(rows)",
+    },
+    "unmixed.devices": {"Net": "()", "replayed": "(net, log)"},
+    "unmixed.scripts": {"play": "(net, script)", "end_of": "(script)", "shortened": "(script)"},
+    "unmixed.papers": {
+        "history_text": "(history)", "read_history": "(text)", "script_text": "(script)", "read_script": "(text)",
+    },
 }
-METHODS = {"hands": "(self)", "deeds": "(self, hand)", "things": "(self)", "size": "(self)"}
+METHODS = {
+    History: {"hands": "(self)", "deeds": "(self, hand)", "things": "(self)", "size": "(self)"},
+    Net: {
+        "add": "(self, hand)", "hands": "(self)", "put": "(self, hand, place, word)", "strike": "(self, hand, place)",
+        "send": "(self, one, other)", "arrive": "(self, number)", "letters": "(self)", "tell": "(self, one, other)",
+        "tell_all": "(self)", "row": "(self, hand)", "view": "(self, hand)", "marks": "(self, hand)",
+        "history": "(self)", "lacks": "(self, one, other)", "show_alike": "(self)", "all_heard": "(self)",
+        "trial": "(self)", "attempt": "(self, action)", "copy": "(self)", "undo": "(self)", "redo": "(self)",
+        "log": "(self)",
+    },
+}
 
 
 class Interface(unittest.TestCase):
@@ -100,8 +119,9 @@ class Interface(unittest.TestCase):
                 self.assertEqual(found.__module__, module, name)
 
     def test_methods_stand_in_the_class_itself(self):
-        for name, arguments in METHODS.items():
-            self.assertEqual(str(inspect.signature(vars(History)[name])), arguments, name)
+        for owner, methods in METHODS.items():
+            for name, arguments in methods.items():
+                self.assertEqual(str(inspect.signature(vars(owner)[name])), arguments, name)
         self.assertIn("__eq__", vars(History))
 
 

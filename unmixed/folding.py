@@ -1,7 +1,7 @@
 """Folding: a view that all later deeds have seen is told anew, without what it has struck."""
 
 from unmixed.errors import Refused
-from unmixed.histories import History, check_history
+from unmixed.histories import History
 from unmixed.orders import order_in
 from unmixed.pasts import has_mark, is_within
 from unmixed.shown import check_with_view, shown, struck
