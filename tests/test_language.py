@@ -1,6 +1,7 @@
 """What can be counted of the rules of the language: files, sizes, characters, imports, docstrings."""
 
 import ast
+import builtins
 import pathlib
 import unittest
 
@@ -43,6 +44,29 @@ class Files(unittest.TestCase):
                 if isinstance(node, ast.ImportFrom) and node.module not in LIBRARY:
                     for alias in node.names:
                         self.assertIn(alias.name, defined[node.module], path.name)
+
+    def test_no_variable_has_the_name_of_a_builtin_or_of_what_its_file_imports(self):
+        for path in FILES:
+            tree = ast.parse(path.read_text())
+            taken = set(dir(builtins)) | {node.name for node in tree.body if isinstance(node, ast.ClassDef)}
+            for node in tree.body:
+                if isinstance(node, ast.ImportFrom):
+                    taken |= {alias.name for alias in node.names}
+            names = {node.arg for node in ast.walk(tree) if isinstance(node, ast.arg)}
+            for node in ast.walk(tree):
+                if isinstance(node, ast.Name) and isinstance(node.ctx, ast.Store):
+                    names.add(node.id)
+            self.assertEqual(names & taken, set(), path.name)
+
+    def test_no_name_is_a_method_and_an_attribute(self):
+        methods, attributes = set(), set()
+        for path in FILES:
+            for node in ast.walk(ast.parse(path.read_text())):
+                if isinstance(node, ast.ClassDef):
+                    methods |= {member.name for member in node.body if isinstance(member, ast.FunctionDef)}
+                if isinstance(node, ast.Attribute) and isinstance(node.ctx, ast.Store):
+                    attributes.add(node.attr)
+        self.assertEqual(methods & attributes, set())
 
 
 if __name__ == "__main__":

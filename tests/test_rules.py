@@ -3,6 +3,7 @@ import inspect
 import time
 import unittest
 
+from asking import copy_of, spoil
 from samples import both_deeds, four_deeds, largest_deeds, nested, talk_deeds
 from unmixed.between import between, came_between, parted_since, why_between
 from unmixed.brothers import brothers_behind, led_by, roots, stretch, told_ahead
@@ -228,24 +229,6 @@ class NothingChanges(unittest.TestCase):
         for mark in sequence(one):
             self.assertEqual(repr(least_view(one, [mark])), repr(least_view(other, [mark])))
             self.assertEqual(repr(past_of(one, mark)), repr(past_of(other, mark)))
-
-
-def spoil(value):
-    """Change each list and each dictionary within what was returned."""
-    for member in list(value.values()) if isinstance(value, dict) else value:
-        if isinstance(member, (list, tuple, dict)):
-            spoil(member)
-    if isinstance(value, list):
-        value.append("spoilt")
-    if isinstance(value, dict):
-        value["spoilt"] = "spoilt"
-
-
-def copy_of(value):
-    """A copy of an argument, with new lists and dictionaries, the items of these in their sequence."""
-    if isinstance(value, (list, tuple)):
-        return type(value)([copy_of(member) for member in value])
-    return {key: copy_of(value[key]) for key in value} if isinstance(value, dict) else value
 
 
 A, B, C = ("ann", 0), ("bob", 0), ("cy", 0)

@@ -6,6 +6,8 @@ def arranged(things, pairs, bars):
 
     The first of each pair stands ahead of its last; the middle one of each bar never stands between the two others.
     """
+    if len(things) < 2:
+        return [list(things)]
     lists = [[]]
     for _ in things:
         lists = [[*begun, thing] for begun in lists for thing in things if may_follow(begun, thing, pairs, bars)]

@@ -1,13 +1,13 @@
 """What stands between things in the order, and by what it came there."""
 
-from unmixed.orders import decided, order_in
-from unmixed.things import check_two_things, check_with_thing, neighbours_in
+from unmixed.orders import decided_in, order_in
+from unmixed.things import check_two_things, check_with_thing
 
 
 def between(history, one, other):
     """Return the list of the things that stand between two things, whichever of them comes first."""
     check_two_things(history, one, other)
-    listed = history.order()
+    listed = history.walk.listed
     start, end = sorted([listed.index(one), listed.index(other)])
     return listed[start + 1:end]
 
@@ -15,8 +15,8 @@ def between(history, one, other):
 def came_between(history, thing):
     """Return what stands between a thing's left neighbour and the thing, and between it and its right neighbour."""
     check_with_thing(history, thing)
-    left, right = neighbours_in(history)[thing]
-    listed = history.order()
+    left, right = history.neighbours[thing]
+    listed = history.walk.listed
     return (inside(listed, left, thing), inside(listed, thing, right))
 
 
@@ -37,7 +37,7 @@ def by_words(history, thing, others):
     """Return the dictionary from the words that decide of a thing and others, ascending, to these others."""
     words = {}
     for other in others:
-        word = decided(history, thing, other)[0]
+        word, _, _ = decided_in(history, thing, other)
         words.setdefault(word, []).append(other)
     return {word: words[word] for word in sorted(words)}
 
@@ -45,6 +45,5 @@ def by_words(history, thing, others):
 def parted_since(history, view):
     """Return the neighbours in the order of a view between which things of the whole history stand, with how many."""
     fenced = [None, *order_in(history, view), None]
-    listed = history.order()
-    counted = [(one, other, len(inside(listed, one, other))) for one, other in zip(fenced, fenced[1:])]
+    counted = [(one, other, len(inside(history.walk.listed, one, other))) for one, other in zip(fenced, fenced[1:])]
     return [(one, other, many) for one, other, many in counted if many > 0]

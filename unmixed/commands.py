@@ -2,10 +2,9 @@
 
 from unmixed.errors import InvalidHand, InvalidNumber, InvalidWord
 from unmixed.forms import is_count, is_word
-from unmixed.histories import grown
+from unmixed.histories import with_deed
 from unmixed.pasts import united
-from unmixed.shown import neighbours_at, thing_shown
-from unmixed.views import whole
+from unmixed.shown import neighbours_for, thing_at
 
 # What stands behind the word of each command.
 KINDS = {
@@ -39,24 +38,24 @@ def put_word(state, hand, place, word):
     """Let a device put a word; return the mark of the new thing."""
     check_device(state, hand)
     view = state.views[hand]
-    left, right = neighbours_at(state.told, view, place)
+    left, right = neighbours_for(state.told, view, place)
     if not is_word(word):
         raise InvalidWord(word)
-    return with_deed(state, hand, ("put", word, left, right, view)), (hand, view.get(hand, 0))
+    return done(state, hand, ("put", word, left, right, view)), (hand, view.get(hand, 0))
 
 
 def strike_thing(state, hand, place):
     """Let a device strike out what shows at a position of its row; return the mark of that thing."""
     check_device(state, hand)
     view = state.views[hand]
-    thing = thing_shown(state.told, view, place)
-    return with_deed(state, hand, ("strike", thing, view)), thing
+    thing = thing_at(state.told, view, place)
+    return done(state, hand, ("strike", thing, view)), thing
 
 
-def with_deed(state, hand, deed):
+def done(state, hand, deed):
     """Return how a net stands with a deed more of a device, whose view is the deed's past."""
     view = united(deed[-1], {hand: deed[-1].get(hand, 0) + 1})
-    return State(grown(state.told, hand, deed), {**state.views, hand: view}, state.posted)
+    return State(with_deed(state.told, hand, deed), {**state.views, hand: view}, state.posted)
 
 
 def send_letter(state, one, other):
@@ -82,7 +81,7 @@ def tell_one(state, one, other):
 
 def tell_everyone(state):
     """Give all devices all deeds; return how many were new, in all."""
-    return hearing(state, sorted(state.views), whole(state.told))
+    return hearing(state, sorted(state.views), state.told.counts)
 
 
 def hearing(state, hands, view):

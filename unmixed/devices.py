@@ -3,9 +3,8 @@
 from unmixed.commands import KINDS, State, carried_out, check_both_devices, check_device
 from unmixed.errors import InvalidNet, InvalidRecord, NothingToRedo, NothingToUndo
 from unmixed.histories import History
-from unmixed.shown import row, shown
-from unmixed.pasts import ascending
-from unmixed.versions import lacks
+from unmixed.pasts import ascending, lacking
+from unmixed.rows import row_shown, things_shown
 
 
 class Block:
@@ -85,18 +84,21 @@ class Net:
 
     def row(self, hand):
         """Return the row that a device shows."""
-        check_device(self.state(), hand)
-        return row(self.state().told, self.state().views[hand])
+        state = self.state()
+        check_device(state, hand)
+        return row_shown(state.told, state.views[hand])
 
     def view(self, hand):
         """Return a device's view."""
-        check_device(self.state(), hand)
-        return ascending(self.state().views[hand])
+        state = self.state()
+        check_device(state, hand)
+        return ascending(state.views[hand])
 
     def marks(self, hand):
         """Return the marks of the things that a device shows, in order."""
-        check_device(self.state(), hand)
-        return shown(self.state().told, self.state().views[hand])
+        state = self.state()
+        check_device(state, hand)
+        return things_shown(state.told, state.views[hand])
 
     def history(self):
         """Return the history of all deeds."""
@@ -106,7 +108,7 @@ class Net:
         """Return the ascending list of the marks of the deeds that the other device has and the one has not."""
         state = self.state()
         check_both_devices(state, one, other)
-        return lacks(state.told, state.views[one], state.views[other])
+        return lacking(state.views[one], state.views[other])
 
     def show_alike(self):
         """Return whether all devices show the same row."""

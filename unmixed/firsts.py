@@ -4,15 +4,15 @@ from unmixed.arranging import all_laid_out, arranged, laid_out, many_choices
 from unmixed.errors import InvalidOrder, Refused
 from unmixed.forms import is_list_of, is_neighbour
 from unmixed.histories import check_history
-from unmixed.kin import LEFT, families, places_in, told_pairs
+from unmixed.kin import LEFT, families, places_in, told_by_lefts
 from unmixed.orders import reasons_behind
-from unmixed.things import check_listing, check_with_left, is_listing, neighbours_in
+from unmixed.things import check_listing, check_with_left, is_listing
 
 
 def is_first(history, value):
     """Return whether any object is a first list."""
     check_history(history)
-    return is_listing(history, value) and keeps_first(neighbours_in(history), value)
+    return is_listing(history, value) and keeps_first(history.neighbours, value)
 
 
 def keeps_first(neighbours, listed):
@@ -26,20 +26,22 @@ def keeps_first(neighbours, listed):
 def brother_orders(history, left):
     """Return the ascending list of all lists of the brothers behind `left` that keep what `told_ahead` tells."""
     check_with_left(history, left)
-    neighbours = neighbours_in(history)
-    return arranged(families(neighbours).get(left, []), told_pairs(neighbours, left), [])
+    brothers = families(history.neighbours)
+    told = told_by_lefts(history.neighbours)
+    return arranged(brothers.get(left, []), told.get(left, []), [])
 
 
 def brother_lists(neighbours):
     """Return the dictionary from the left neighbours, None ahead, to all lists of the brothers behind each."""
     brothers = families(neighbours)
-    return {left: arranged(brothers[left], told_pairs(neighbours, left), []) for left in brothers}
+    told = told_by_lefts(neighbours)
+    return {left: arranged(brothers[left], told.get(left, []), []) for left in brothers}
 
 
 def first_by(history, choice):
     """Return the first list in which the brothers behind each left neighbour stand as a choice tells."""
     check_history(history)
-    if not is_choice(neighbours_in(history), choice):
+    if not is_choice(history.neighbours, choice):
         raise InvalidOrder(choice)
     return laid_out(choice)
 
@@ -53,19 +55,15 @@ def is_choice(neighbours, value):
         return False
     if not all([is_list_of(value[left], brothers[left]) for left in brothers]):
         return False
-    return all([keeps_told(neighbours, left, value[left]) for left in brothers])
-
-
-def keeps_told(neighbours, left, listed):
-    """Return whether a list of the brothers behind a left neighbour has the told ones ahead of the others."""
-    return all([listed.index(one) < listed.index(other) for one, other in told_pairs(neighbours, left)])
+    told = told_by_lefts(neighbours)
+    return all([value[left].index(one) < value[left].index(other) for left in told for one, other in told[left]])
 
 
 def choice_of(history, things):
     """Return the choice of a first list."""
     check_history(history)
     check_listing(history, things)
-    neighbours = neighbours_in(history)
+    neighbours = history.neighbours
     if not keeps_first(neighbours, things):
         raise Refused(things)
     return {left: [thing for thing in things if neighbours[thing][LEFT] == left] for left in families(neighbours)}
@@ -74,10 +72,10 @@ def choice_of(history, things):
 def many_first(history):
     """Return how many first lists there are."""
     check_history(history)
-    return many_choices(brother_lists(neighbours_in(history)))
+    return many_choices(brother_lists(history.neighbours))
 
 
 def all_first(history):
     """Return the ascending list of all first lists."""
     check_history(history)
-    return all_laid_out(brother_lists(neighbours_in(history)))
+    return all_laid_out(brother_lists(history.neighbours))

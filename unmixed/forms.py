@@ -7,7 +7,7 @@ def is_word(value):
     """Return whether any object is a string of one to eight letters a to z."""
     if not isinstance(value, str) or not 1 <= len(value) <= LONGEST_WORD:
         return False
-    return all(["a" <= letter <= "z" for letter in value])
+    return value.isascii() and value.isalpha() and value.islower()
 
 
 def is_word_list(value):
@@ -18,7 +18,7 @@ def is_word_list(value):
 def is_count(value):
     """Return whether any object is a whole number of at least 0."""
     # Python takes True and False for integers; the document never does.
-    return isinstance(value, int) and not isinstance(value, bool) and value >= 0
+    return isinstance(value, int) and value is not True and value is not False and value >= 0
 
 
 def has_mark_form(value):
@@ -30,7 +30,10 @@ def has_view_form(value):
     """Return whether any object is a dictionary from hands to counts from 1 on."""
     if not isinstance(value, dict):
         return False
-    return all([is_word(hand) and is_count(count) and count >= 1 for hand, count in value.items()])
+    for hand, count in value.items():
+        if not is_word(hand) or not is_count(count) or count == 0:
+            return False
+    return True
 
 
 def has_deed_form(value):
@@ -51,7 +54,10 @@ def has_deeds_form(value):
     """Return whether any object is a dictionary from hands to lists, none of them empty, of deeds."""
     if not isinstance(value, dict):
         return False
-    return all([is_word(hand) and is_deed_list(listed) for hand, listed in value.items()])
+    for hand, listed in value.items():
+        if not is_word(hand) or not is_deed_list(listed):
+            return False
+    return True
 
 
 def is_deed_list(value):
@@ -61,4 +67,6 @@ def is_deed_list(value):
 
 def is_list_of(value, marks):
     """Return whether any object is a list of ascending marks, each once, in any sequence."""
-    return isinstance(value, list) and all([has_mark_form(mark) for mark in value]) and sorted(value) == marks
+    if not isinstance(value, list) or len(value) != len(marks):
+        return False
+    return all([has_mark_form(mark) for mark in value]) and sorted(value) == marks

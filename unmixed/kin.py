@@ -50,11 +50,6 @@ def leaders_of(neighbours, thing):
     return [other for other in neighbours if other != thing and thing in lead_way(neighbours, other)]
 
 
-def leans_on(neighbours, one, other):
-    """Return whether one thing leans on another one."""
-    return one != other and other in lean_way(neighbours, one)
-
-
 def families(neighbours):
     """Return the dictionary from the left neighbours, None ahead, to the ascending lists of what is put behind each."""
     brothers = {left: [] for left in [None, *neighbours]}
@@ -63,18 +58,31 @@ def families(neighbours):
     return {left: brothers[left] for left in brothers if brothers[left]}
 
 
-def told_pairs(neighbours, left):
-    """Return the ascending list of the pairs of brothers behind `left` in whose stretches some two neighbours are."""
-    tops = {thing: brother_on_way(neighbours, thing, left) for thing in neighbours}
-    tops[None] = None
-    pairs = [(tops[thing], tops[neighbours[thing][RIGHT]]) for thing in neighbours]
-    return sorted({(one, other) for one, other in pairs if one is not None and other is not None and one != other})
+def stretches(neighbours):
+    """Return the dictionary from the things to the ascending lists of each and all that hang on it."""
+    found = {thing: [] for thing in neighbours}
+    for thing in neighbours:
+        for other in hang_way(neighbours, thing):
+            found[other].append(thing)
+    return found
 
 
-def brother_on_way(neighbours, thing, left):
-    """Return the brother behind `left` in whose stretch a thing is, None if there is none."""
-    found = [other for other in hang_way(neighbours, thing) if neighbours[other][LEFT] == left]
-    return found[0] if found else None
+def told_by_lefts(neighbours):
+    """Return the dictionary from left neighbours to the pairs of brothers whose stretches some thing puts in order."""
+    told = {}
+    for thing in neighbours:
+        right = neighbours[thing][RIGHT]
+        if right is not None:
+            one, other = last_apart(hang_way(neighbours, thing), hang_way(neighbours, right))
+            told.setdefault(neighbours[one][LEFT], []).append((one, other))
+    return {left: sorted(set(told[left])) for left in told}
+
+
+def last_apart(one, other):
+    """Return the last things of two ways that are not on both."""
+    alone = [thing for thing in one if thing not in other]
+    other_alone = [thing for thing in other if thing not in one]
+    return alone[-1], other_alone[-1]
 
 
 def places_in(listed):

@@ -9,15 +9,14 @@ from unmixed.forms import is_list_of
 from unmixed.histories import check_history
 from unmixed.kin import RIGHT
 from unmixed.orders import deciding
-from unmixed.things import check_listing, check_with_thing, is_listing, neighbours_in
-from unmixed.views import sequence
+from unmixed.things import check_listing, check_with_thing, is_listing
 from unmixed.walks import walked
 
 
 def lots(history):
     """Return the ascending list of all lots."""
     check_history(history)
-    return lots_in(neighbours_in(history))
+    return lots_in(history.neighbours)
 
 
 def lots_in(neighbours):
@@ -75,9 +74,7 @@ def list_dealt(history, dealing):
 
 def puts_in(history):
     """Return the list of the tuples of each thing and its neighbours, each behind all of its past."""
-    neighbours = neighbours_in(history)
-    things = [mark for mark in sequence(history) if mark in neighbours]
-    return [(thing, neighbours[thing][0], neighbours[thing][1]) for thing in things]
+    return [(thing, left, right) for thing, (left, right) in history.walk.neighbours.items()]
 
 
 def walked_by(puts, dealt_lots, dealing):
@@ -123,7 +120,7 @@ def all_by_lots(history):
 def asked_in_lots(history):
     """Return the ascending list of the pairs of lots just as which some thing and its right neighbour stand."""
     check_history(history)
-    neighbours = neighbours_in(history)
+    neighbours = history.neighbours
     asked = [asked_for(neighbours, thing, neighbours[thing][RIGHT]) for thing in neighbours]
     return sorted({pair for pair in asked if pair is not None})
 

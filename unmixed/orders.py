@@ -2,69 +2,74 @@
 
 from unmixed.errors import Refused
 from unmixed.histories import check_history
-from unmixed.kin import LEFT, RIGHT, hang_way, is_put_ahead, lead_way, leaders_of, places_in, stretch_of
-from unmixed.pasts import has_mark
-from unmixed.things import check_listing, check_two_things, check_with_thing, is_listing, neighbours_in
-from unmixed.views import check_view
+from unmixed.kin import LEFT, RIGHT, hang_way, is_put_ahead, last_apart, lead_way, places_in
+from unmixed.rows import order_seen
+from unmixed.things import check_listing, check_two_things, check_with_thing, is_listing
+from unmixed.views import check_with_view
 
 
 def order(history):
     """Return the one order of the things."""
     check_history(history)
-    return history.order()
+    return list(history.walk.listed)
 
 
 def order_in(history, view):
     """Return the order of the things of a view."""
-    check_history(history)
-    check_view(history, view)
-    # More deeds never turn two things about: the order of all, the others left out, is that of the view.
-    return [thing for thing in history.order() if has_mark(view, thing)]
+    check_with_view(history, view)
+    return order_seen(history, view)
 
 
 def is_order(history, value):
     """Return whether any object is the order."""
     check_history(history)
-    return is_listing(history, value) and value == history.order()
+    return is_listing(history, value) and value == history.walk.listed
 
 
 def reasons(history, value):
     """Return the ascending list of all that speaks against a list of all things, each once."""
     check_history(history)
     check_listing(history, value)
-    neighbours = neighbours_in(history)
+    neighbours = history.neighbours
     found = reasons_behind(neighbours, value) + reasons_ahead(neighbours, value) + reasons_beside(neighbours, value)
     return sorted(found)
 
 
 def reasons_behind(neighbours, listed):
     """Return what speaks by the first rule, that of things and their left neighbours, against a list."""
+    places = places_in(listed)
+    ways = {thing: hang_way(neighbours, thing) for thing in neighbours}
     found = []
     for thing in neighbours:
         left = neighbours[thing][LEFT]
-        if left is not None:
-            let = stretch_of(neighbours, left)
-            found.extend([("behind", thing, other) for other in wrong_between(listed, left, thing, let, left)])
+        if left is not None and places[thing] < places[left]:
+            found.append(("behind", thing, left))
+        elif left is not None:
+            inside = listed[places[left] + 1:places[thing]]
+            found.extend([("behind", thing, other) for other in inside if left not in ways[other]])
     return found
 
 
 def reasons_ahead(neighbours, listed):
     """Return what speaks by the second rule, that of things put ahead of brothers, against a list."""
+    places = places_in(listed)
     found = []
     for thing in neighbours:
-        if is_put_ahead(neighbours, thing):
-            right = neighbours[thing][RIGHT]
-            let = [other for leader in leaders_of(neighbours, right) for other in stretch_of(neighbours, leader)]
-            found.extend([("ahead", thing, other) for other in wrong_between(listed, thing, right, let, right)])
+        right = neighbours[thing][RIGHT]
+        if is_put_ahead(neighbours, thing) and places[right] < places[thing]:
+            found.append(("ahead", thing, right))
+        elif is_put_ahead(neighbours, thing):
+            inside = listed[places[thing] + 1:places[right]]
+            found.extend([("ahead", thing, other) for other in inside if not is_led_in(neighbours, other, right)])
     return found
 
 
-def wrong_between(listed, first, last, let, blamed):
-    """Return what is blamed if the last thing stands ahead of the first, else what is not let between them."""
-    start, end = listed.index(first), listed.index(last)
-    if end < start:
-        return [blamed]
-    return [thing for thing in listed[start + 1:end] if thing not in let]
+def is_led_in(neighbours, thing, led):
+    """Return whether a thing leads another one, or hangs on one that does."""
+    for other in hang_way(neighbours, thing):
+        if other != led and led in lead_way(neighbours, other):
+            return True
+    return False
 
 
 def reasons_beside(neighbours, listed):
@@ -91,13 +96,17 @@ def decided(history, one, other):
     check_two_things(history, one, other)
     if one == other:
         raise Refused(one)
-    neighbours = neighbours_in(history)
-    word, first, last = deciding(neighbours, one, other)
+    return decided_in(history, one, other)
+
+
+def decided_in(history, one, other):
+    """Return by what it is decided which of two unlike things comes first."""
+    word, first, last = deciding(history.neighbours, one, other)
     if word is not None:
         return (word, first, last)
-    places = places_in(history.order())
-    word = "mark" if neighbours[first] == neighbours[last] else "farther"
-    return (word, first, last) if places[first] < places[last] else (word, last, first)
+    listed = history.walk.listed
+    word = "mark" if history.neighbours[first] == history.neighbours[last] else "farther"
+    return (word, first, last) if listed.index(first) < listed.index(last) else (word, last, first)
 
 
 def deciding(neighbours, one, other):
@@ -121,14 +130,7 @@ def deciding(neighbours, one, other):
     return (None, x, y)
 
 
-def last_apart(one, other):
-    """Return the last things of two ways that are not on both."""
-    alone = [thing for thing in one if thing not in other]
-    other_alone = [thing for thing in other if thing not in one]
-    return alone[-1], other_alone[-1]
-
-
 def place_of(history, thing):
     """Return the position of a thing in the order."""
     check_with_thing(history, thing)
-    return history.order().index(thing)
+    return history.walk.listed.index(thing)

@@ -1,7 +1,7 @@
 """Texts of histories and scripts. A reader takes just what the writer beside it makes."""
 
-from unmixed.errors import InvalidText
-from unmixed.histories import History, check_history, first_wrong
+from unmixed.errors import InvalidHistory, InvalidText
+from unmixed.histories import History, check_history
 from unmixed.scripts import check_script, is_script, kinds_of
 
 # No line of a text has more signs; Python refuses to read numbers that are far longer.
@@ -14,7 +14,7 @@ def history_text(history):
     lines = []
     for hand in history.hands():
         lines.append(f"{hand}:")
-        lines.extend([deed_text(deed) for deed in history.deeds(hand)])
+        lines.extend([deed_text(deed) for deed in history.by_hands[hand]])
     return "\n".join(lines)
 
 
@@ -35,11 +35,14 @@ def mark_text(mark):
 
 def read_history(text):
     """Return the history of a text."""
-    deeds = deeds_in(text)
+    try:
+        history = History(deeds_in(text))
+    except InvalidHistory:
+        raise InvalidText(text) from None
     # What is read is written again: so no other text passes, whatever it is that the reading lets through.
-    if first_wrong(deeds) is not None or history_text(History(deeds)) != text:
+    if history_text(history) != text:
         raise InvalidText(text)
-    return History(deeds)
+    return history
 
 
 def deeds_in(text):

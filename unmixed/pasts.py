@@ -11,6 +11,11 @@ def marks_of(view):
     return [(hand, number) for hand in sorted(view) for number in range(view[hand])]
 
 
+def lacking(view, other):
+    """Return the ascending list of the marks of the deeds that the other view has and the first one has not."""
+    return [mark for mark in marks_of(other) if not has_mark(view, mark)]
+
+
 def is_within(view, other):
     """Return whether the other view has all deeds of the first one."""
     return all([view[hand] <= other.get(hand, 0) for hand in view])

@@ -3,19 +3,19 @@
 from unmixed.errors import InvalidRun, Refused
 from unmixed.histories import check_history
 from unmixed.kin import LEFT, RIGHT, is_put_ahead, places_in
-from unmixed.things import is_thing, neighbours_in
+from unmixed.things import is_thing
 
 
 def forward_runs(history):
     """Return the ascending list of all forward runs."""
     check_history(history)
-    return runs_by(neighbours_in(history), goes_forward)
+    return runs_by(history.neighbours, goes_forward)
 
 
 def backward_runs(history):
     """Return the ascending list of all backward runs."""
     check_history(history)
-    return runs_by(neighbours_in(history), goes_backward)
+    return runs_by(history.neighbours, goes_backward)
 
 
 def goes_forward(neighbours, elder, younger):
@@ -43,7 +43,7 @@ def mixed_in(history, run):
     """Return the list of the things that stand between two of a list and are not in it."""
     check_history(history)
     check_run(history, run)
-    listed = history.order()
+    listed = history.walk.listed
     start, end = ends_of(listed, run)
     return [thing for thing in listed[start:end] if thing not in run]
 
@@ -55,7 +55,7 @@ def are_apart(history, one, other):
     check_run(history, other)
     if any([thing in other for thing in one]):
         raise Refused(other)
-    listed = history.order()
+    listed = history.walk.listed
     start, end = ends_of(listed, one)
     other_start, other_end = ends_of(listed, other)
     return end < other_start or other_end < start
@@ -72,7 +72,7 @@ def pieces_by_hands(history):
     """Return the list of the tuples of a hand and things for the longest pieces of the order that are one hand's."""
     check_history(history)
     pieces = []
-    for thing in history.order():
+    for thing in history.walk.listed:
         if pieces and pieces[-1][0] == thing[0]:
             pieces[-1][1].append(thing)
         else:

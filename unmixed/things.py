@@ -1,30 +1,19 @@
-"""The things of a history: their neighbours, and whether objects are things, or lists of all of them."""
+"""The things of a history: whether objects are things, or lists of all of them."""
 
 from unmixed.errors import InvalidMark, InvalidOrder
 from unmixed.forms import has_mark_form, is_list_of
 from unmixed.histories import check_history
 
 
-def deeds_by_marks(history):
-    """Return the dictionary from the marks of all deeds of a history, ascending, to the deeds."""
-    return {(hand, at): deed for hand in history.hands() for at, deed in enumerate(history.deeds(hand))}
-
-
-def neighbours_in(history):
-    """Return the dictionary from the things of a history, ascending, to tuples of their left and right neighbour."""
-    deeds = deeds_by_marks(history)
-    return {mark: (deeds[mark][2], deeds[mark][3]) for mark in history.things()}
-
-
 def is_thing(history, value):
     """Return whether any object is a thing of a history."""
     # The form comes first: Python takes a mark with False for one with 0.
-    return has_mark_form(value) and value in history.things()
+    return has_mark_form(value) and value in history.neighbours
 
 
 def is_listing(history, value):
     """Return whether any object is a list of all things of a history, each once."""
-    return is_list_of(value, history.things())
+    return is_list_of(value, list(history.neighbours))
 
 
 def check_thing(history, thing):

@@ -4,7 +4,6 @@ from unmixed.errors import InvalidRows, Refused
 from unmixed.forms import is_word, is_word_list
 from unmixed.histories import History, check_history
 from unmixed.pasts import has_mark, is_within
-from unmixed.things import deeds_by_marks
 from unmixed.walks import Walk
 
 
@@ -118,14 +117,14 @@ def judged_orders(seen, views):
 def rows_of(history):
     """Return the rows that the hands of a history without strikes, and without a word twice, saw."""
     check_history(history)
-    deeds = deeds_by_marks(history)
-    words = {mark: deeds[mark][1] for mark in history.things()}
+    deeds = history.by_marks
+    words = {mark: deeds[mark][1] for mark in history.neighbours}
     if len(words) < len(deeds) or len(set(list(words.values()))) < len(words):
         raise Refused(history)
     rows = {hand: [] for hand in history.hands()}
     for mark in deeds:
         past = deeds[mark][-1]
-        row = [words[thing] for thing in history.order() if thing == mark or has_mark(past, thing)]
+        row = [words[thing] for thing in history.walk.listed if thing == mark or has_mark(past, thing)]
         rows[mark[0]].append((words[mark], row))
     return rows
 

@@ -2,37 +2,37 @@
 
 from unmixed.errors import InvalidRows, InvalidSteps
 from unmixed.forms import is_count, is_word_list
-from unmixed.histories import all_pasts, check_hand, check_history
-from unmixed.pasts import has_mark, marks_of
-from unmixed.shown import shown
-from unmixed.things import check_with_thing, deeds_by_marks
-from unmixed.views import check_two_views, check_view
+from unmixed.histories import check_hand
+from unmixed.pasts import has_mark, lacking
+from unmixed.rows import things_shown
+from unmixed.things import check_with_thing
+from unmixed.views import check_two_views, check_with_view
 
 
 def kept(history, one, other):
     """Return the list of the things that two views both show, as they stand."""
     check_two_views(history, one, other)
-    things = shown(history, other)
-    return [thing for thing in shown(history, one) if thing in things]
+    others = {thing: True for thing in things_shown(history, other)}
+    return [thing for thing in things_shown(history, one) if thing in others]
 
 
 def changes(history, one, other):
     """Return how the row of the other view comes of that of the one: a list of places, words out and words in."""
     check_two_views(history, one, other)
-    ones, others = shown(history, one), shown(history, other)
-    deeds = deeds_by_marks(history)
+    # The row's end bounds a piece as what is kept does.
+    ones = {thing: True for thing in [*things_shown(history, one), None]}
+    others = {thing: True for thing in [*things_shown(history, other), None]}
     steps = []
     place, out, into = 0, [], []
-    # The row's end bounds a piece as what is kept does.
-    for thing in [*history.order(), None]:
-        if thing is None or thing in ones and thing in others:
+    for thing in [*history.walk.listed, None]:
+        if thing in ones and thing in others:
             if out or into:
                 steps.append((place, out, into))
             place, out, into = place + len(out) + 1, [], []
         elif thing in ones:
-            out.append(deeds[thing][1])
+            out.append(history.by_marks[thing][1])
         elif thing in others:
-            into.append(deeds[thing][1])
+            into.append(history.by_marks[thing][1])
     return steps
 
 
@@ -76,18 +76,16 @@ def has_step_form(value):
 
 def by_whom(history, one):
     """Return the list of the tuples of the word and the hand of each thing that a view shows, as they stand."""
-    check_history(history)
-    check_view(history, one)
-    deeds = deeds_by_marks(history)
-    return [(deeds[thing][1], thing[0]) for thing in shown(history, one)]
+    check_with_view(history, one)
+    return [(history.by_marks[thing][1], thing[0]) for thing in things_shown(history, one)]
 
 
 def known_since(history, thing):
     """Return the dictionary from the hands that ever have a thing to the number of their first deed that has it."""
     check_with_thing(history, thing)
     since = {}
-    for mark, past in all_pasts(history).items():
-        if mark == thing or has_mark(past, thing):
+    for mark, deed in history.by_marks.items():
+        if mark == thing or has_mark(deed[-1], thing):
             since.setdefault(mark[0], mark[1])
     return since
 
@@ -95,12 +93,11 @@ def known_since(history, thing):
 def lacks(history, one, other):
     """Return the ascending list of the marks of the deeds that the other view has and the one has not."""
     check_two_views(history, one, other)
-    return [mark for mark in marks_of(other) if not has_mark(one, mark)]
+    return lacking(one, other)
 
 
 def words_of(history, one, hand):
     """Return the list of the words of a hand's things that a view shows, as they stand."""
-    check_history(history)
-    check_view(history, one)
+    check_with_view(history, one)
     check_hand(hand)
-    return [word for word, owner in by_whom(history, one) if owner == hand]
+    return [history.by_marks[thing][1] for thing in things_shown(history, one) if thing[0] == hand]

@@ -1,24 +1,21 @@
 """Views: deeds of a history that have, with each deed, all of that deed's past."""
 
 from unmixed.errors import InvalidMark, InvalidView
-from unmixed.forms import has_view_form
-from unmixed.histories import History, all_pasts, check_history, check_mark, has_deed, past_of
-from unmixed.pasts import common, has_mark, in_sequence, is_within, marks_of, united
+from unmixed.histories import check_history, check_mark, has_deed, part_of
+from unmixed.judging import is_view_among
+from unmixed.pasts import common, has_mark, in_sequence, is_within, united
 
 
 def is_view(history, value):
     """Return whether any object is a view of a history."""
     check_history(history)
-    if not has_view_form(value) or not is_within(value, whole(history)):
-        return False
-    pasts = all_pasts(history)
-    return all([is_within(pasts[mark], value) for mark in marks_of(value)])
+    return is_view_among(history.by_hands, value)
 
 
 def whole(history):
     """Return the view of all deeds."""
     check_history(history)
-    return {hand: len(history.deeds(hand)) for hand in history.hands()}
+    return {hand: history.counts[hand] for hand in history.counts}
 
 
 def joined(history, one, other):
@@ -41,11 +38,11 @@ def has_view(history, one, other):
 
 def heads(history, view):
     """Return the ascending list of the marks of a view that are in the past of none of its deeds."""
-    check_history(history)
-    check_view(history, view)
-    pasts = all_pasts(history)
-    marks = marks_of(view)
-    return [mark for mark in marks if not any([has_mark(pasts[other], mark) for other in marks])]
+    check_with_view(history, view)
+    # Each hand's deeds but the last one are in the past of that, and what any of them has seen, it has seen, too.
+    lasts = [(hand, view[hand] - 1) for hand in sorted(view)]
+    pasts = [history.by_marks[mark][-1] for mark in lasts]
+    return [mark for mark in lasts if not any([has_mark(past, mark) for past in pasts])]
 
 
 def least_view(history, marks):
@@ -56,35 +53,34 @@ def least_view(history, marks):
     for mark in marks:
         check_mark(history, mark)
     view = {}
-    for mark in marks:
-        view = united(view, united(past_of(history, mark), {mark[0]: mark[1] + 1}))
+    for hand, number in marks:
+        view = united(view, {**history.by_marks[(hand, number)][-1], hand: number + 1})
     return view
 
 
 def part(history, view):
     """Return the history of a view's deeds."""
-    check_history(history)
-    check_view(history, view)
-    return History({hand: history.deeds(hand)[:view[hand]] for hand in view})
+    check_with_view(history, view)
+    return part_of(history, view)
 
 
 def sequence(history):
     """Return a list of the marks of all deeds, each behind all of its past."""
     check_history(history)
-    return in_sequence(all_pasts(history))
+    return in_sequence({mark: deed[-1] for mark, deed in history.by_marks.items()})
 
 
 def is_sequence(history, value):
     """Return whether any object is a list of the marks of all deeds, each once, each behind all of its past."""
     check_history(history)
-    if not isinstance(value, list) or not all([has_deed(history, mark) for mark in value]):
-        return False
-    pasts = all_pasts(history)
-    if sorted(value) != list(pasts):
+    if not isinstance(value, list) or len(value) != history.size():
         return False
     seen = {}
     for mark in value:
-        if not is_within(pasts[mark], seen):
+        # Each hand's deeds come one by one: so none comes twice.
+        if not has_deed(history, mark) or seen.get(mark[0], 0) != mark[1]:
+            return False
+        if not is_within(history.by_marks[mark][-1], seen):
             return False
         seen[mark[0]] = mark[1] + 1
     return True
@@ -92,12 +88,17 @@ def is_sequence(history, value):
 
 def check_view(history, view):
     """Raise InvalidView for what is no view of a history."""
-    if not is_view(history, view):
+    if not is_view_among(history.by_hands, view):
         raise InvalidView(view)
+
+
+def check_with_view(history, view):
+    """Raise the first error of a history and a view of it."""
+    check_history(history)
+    check_view(history, view)
 
 
 def check_two_views(history, one, other):
     """Raise the first error of a history and two views of it."""
-    check_history(history)
-    check_view(history, one)
+    check_with_view(history, one)
     check_view(history, other)
