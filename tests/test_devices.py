@@ -264,13 +264,14 @@ class Random(unittest.TestCase):
             chance = random.Random(seed)
             hands = HANDS[:chance.randint(1, 5)]
             net, slow = Net(), SlowNet()
-            for at in range(36):
+            for at in range(70):
                 if at < len(hands):
                     steps = [("add", hands[at])]
-                elif chance.random() < 0.25:
+                elif chance.random() < 0.08:
                     steps = [("undo",)] * chance.randint(1, 3) + [("redo",)] * chance.randint(0, 3)
                 else:
-                    steps = [random_command(chance, hands, 4, 3)]
+                    shortest = min([len(net.row(hand)) for hand in net.hands()], default=0)
+                    steps = [random_command(chance, hands, shortest, len(net.letters()))]
                 for step in steps:
                     wanted = outcome(lambda: slow.give(step))
                     self.assertEqual(outcome(lambda: give(net, step)), wanted, step)

@@ -228,6 +228,10 @@ class Shortened(unittest.TestCase):
         found.clear()
         self.assertEqual(script, day_script())
         self.assertEqual(len(shortened(script)), 4)
+        # Also where nothing is left out.
+        script = [("add", "ann"), ("put", "ann", 0, "x")]
+        shortened(script).clear()
+        self.assertEqual(len(script), 2)
 
 
 class Limits(unittest.TestCase):

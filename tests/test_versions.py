@@ -209,6 +209,7 @@ class Lacks(unittest.TestCase):
         talk = History(talk_deeds())
         self.assertEqual([lacks(talk, whole(talk), {"ann": 3}), lacks(talk, {}, {})], [[], []])
         self.assertEqual(lacks(history=talk, one={"bob": 1, "ann": 2}, other={"ann": 3}), [("ann", 2)])
+        self.assertEqual(lacks(talk, {"ann": 1}, {"cy": 1, "bob": 1, "ann": 2}), [("ann", 1), B, C])
         self.assertEqual(words_of(talk, whole(talk), "dan"), [])
         self.assertEqual([words_of(talk, {"ann": 2}, "bob"), words_of(History({}), {}, "ann")], [[], []])
 

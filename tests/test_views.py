@@ -196,6 +196,10 @@ class Parts(unittest.TestCase):
         talk = History(talk_deeds())
         deeds = talk_deeds()
         self.assertEqual(part(talk, {"bob": 1, "ann": 2}), History({"ann": deeds["ann"][:2], "bob": deeds["bob"][:1]}))
+        found = part(talk, {"cy": 1, "bob": 1, "ann": 2})
+        self.assertEqual([found.hands(), list(whole(found)), found.things()[2:]], [
+            ["ann", "bob", "cy"], ["ann", "bob", "cy"], [("bob", 0), ("cy", 0)],
+        ])
         self.assertEqual(part(history=talk, view={}), History({}))
         self.assertEqual(part(talk, whole(talk)), talk)
         self.assertEqual(part(History({}), {}), History({}))

@@ -81,7 +81,7 @@ def tell_one(state, one, other):
 
 def tell_everyone(state):
     """Give all devices all deeds; return how many were new, in all."""
-    return hearing(state, sorted(state.views), state.told.counts)
+    return hearing(state, list(state.views), state.told.counts)
 
 
 def hearing(state, hands, view):

@@ -111,7 +111,7 @@ def all_by_lots(history):
     found = lots(history)
     dealings = [[]]
     for lot in found:
-        sequences = [list(dealt) for dealt in permutations(lot)]
+        sequences = list(permutations(lot))
         dealings = [[*begun, dealt] for begun in dealings for dealt in sequences]
     puts = puts_in(history)
     return sorted([walked_by(puts, found, dealing) for dealing in dealings])
@@ -127,7 +127,8 @@ def asked_in_lots(history):
 
 def asked_for(neighbours, one, other):
     """Return the pair of a lot that has to stand as it is told for one thing to be ahead of another, None if none."""
-    while one is not None and other is not None:
+    # The order has the one ahead of the other: so only the other may come to be the row's end.
+    while other is not None:
         word, x, y = deciding(neighbours, one, other)
         if word is not None:
             return None
@@ -143,5 +144,5 @@ def many_set(history):
     asked = asked_in_lots(history)
     many = 1
     for lot in lots(history):
-        many = many * len(arranged(lot, [pair for pair in asked if pair[0] in lot], []))
+        many = many * len(arranged(lot, asked, []))
     return many

@@ -175,6 +175,4 @@ def all_views(history):
     for hand in history.hands():
         most = history.counts[hand]
         views = views + [{**view, hand: count} for view in views for count in range(1, most + 1)]
-    found = [view for view in views if has_last_pasts(history.by_hands, view)]
-    sized = sorted([(sum(view.values()), at) for at, view in enumerate(found)])
-    return [found[at] for _, at in sized]
+    return [view for view in views if has_last_pasts(history.by_hands, view)]

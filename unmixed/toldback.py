@@ -30,7 +30,7 @@ def is_told(value):
     if not isinstance(value, tuple) or len(value) != 2:
         return False
     word, row = value
-    return is_word(word) and is_word_list(row) and word in row and len(set(row)) == len(row)
+    return is_word_list(row) and word in row and len(set(row)) == len(row)
 
 
 def told_back(rows):
@@ -62,7 +62,7 @@ def judged_rows(rows):
     wrong, walk = judged_orders(seen, views)
     if wrong:
         return ("row", min(wrong)), {}
-    deeds = {hand: [] for hand in sorted(rows)}
+    deeds = {hand: [] for hand in rows}
     for mark in words:
         left, right = walk.neighbours[mark]
         deeds[mark[0]].append(("put", words[mark], left, right, past_in(views[mark], mark)))
@@ -91,7 +91,7 @@ def is_closed_row(things, views, mark):
 def past_in(view, mark):
     """Return a view without the deed of a mark, the last one of its hand."""
     past = {**view, mark[0]: mark[1]}
-    return {hand: past[hand] for hand in sorted(past) if past[hand] > 0}
+    return {hand: past[hand] for hand in past if past[hand] > 0}
 
 
 def judged_orders(seen, views):
