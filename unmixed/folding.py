@@ -105,8 +105,8 @@ def names_behind(history, view, things):
 
 def right_behind(history, deed, gone):
     """Return what stands behind a put's left neighbour in the order of its past, some things left out."""
-    left = [thing for thing in order_seen(history, deed[-1]) if thing not in gone]
-    fenced = [None, *left, None]
+    staying = [thing for thing in order_seen(history, deed[-1]) if thing not in gone]
+    fenced = [None, *staying, None]
     return fenced[fenced.index(deed[2]) + 1]
 
 
