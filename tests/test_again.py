@@ -112,42 +112,55 @@ class Again(unittest.TestCase):
             self.assertEqual([order(history) for history in line], orders)
 
 
+def took(call):
+    """The least time that some calls took, one after the other, so that what else the machine does counts little."""
+    found = []
+    for _ in range(7):
+        begun = time.perf_counter()
+        for _ in range(40):
+            call()
+        found.append(time.perf_counter() - begun)
+    return min(found)
+
+
+def one_step():
+    """What takes a small part of the time of a call that goes over a history of thirty deeds some times."""
+    return {(hand, at): (at, None) for hand in HANDS for at in range(6)}
+
+
 class Time(unittest.TestCase):
-    """[3]: calls with views, and puts and strikes at places, one after the other"""
+    """[3]: calls with views, and puts and strikes at places, one after the other, measured in steps"""
 
     def setUp(self):
-        deeds = largest_deeds()
-        self.deeds, self.history = deeds, History(deeds)
+        self.deeds = largest_deeds()
+        self.history = History(self.deeds)
+        self.whole, self.seen = whole(self.history), seen_by(self.history, "bob")
 
-    def assert_quick(self, call, many, seconds):
-        begun = time.perf_counter()
-        for _ in range(many):
-            call()
-        self.assertLess(time.perf_counter() - begun, seconds)
+    def assert_takes(self, steps, calls):
+        step = took(one_step)
+        for name, call in calls.items():
+            self.assertLess(took(call) / step, steps, name)
 
     def test_calls_with_views(self):
-        history, view = self.history, whole(self.history)
-        seen = seen_by(history, "bob")
-        for call in [
-            lambda: is_view(history, view), lambda: row(history, view), lambda: shown(history, seen),
-            lambda: neighbours_at(history, view, 2), lambda: order_in(history, seen), lambda: heads(history, view),
-            lambda: changes(history, seen, view), lambda: part(history, seen), lambda: is_view(history, {"ann": True}),
-        ]:
-            self.assert_quick(call, 1000, 0.3)
+        history, view, seen = self.history, self.whole, self.seen
+        self.assert_takes(10, {
+            "is_view": lambda: is_view(history, view), "order_in": lambda: order_in(history, seen),
+            "row": lambda: row(history, view), "shown": lambda: shown(history, seen),
+            "neighbours_at": lambda: neighbours_at(history, view, 2), "heads": lambda: heads(history, view),
+        })
+        self.assert_takes(40, {
+            "changes": lambda: changes(history, seen, view), "part": lambda: part(history, seen),
+        })
 
     def test_calls_with_hands_and_places(self):
-        history, hand = self.history, "bob"
-        thing = order(history)[-1]
-        for call in [
-            lambda: put_at(history, hand, 1, "x"), lambda: strike_at(history, hand, 1), lambda: seen_by(history, hand),
-            lambda: rows_seen(history, hand), lambda: why_between(history, thing),
-        ]:
-            self.assert_quick(call, 1000, 0.5)
+        history, hand, thing = self.history, "bob", order(self.history)[-1]
+        self.assert_takes(40, {
+            "put_at": lambda: put_at(history, hand, 1, "x"), "strike_at": lambda: strike_at(history, hand, 1),
+            "rows_seen": lambda: rows_seen(history, hand), "why_between": lambda: why_between(history, thing),
+        })
 
     def test_histories_made(self):
-        self.assert_quick(lambda: History(self.deeds), 100, 0.1)
-        small_ones = small_deeds(116, 200, 5)
-        self.assert_quick(lambda: [History(deeds) for deeds in small_ones], 10, 0.3)
+        self.assert_takes(150, {"History": lambda: History(self.deeds)})
 
 
 if __name__ == "__main__":
